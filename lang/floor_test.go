@@ -35,10 +35,6 @@ const operators = "add sub mul div rem and or xor shl shr min max"
 
 const relations = "== != < <= > >="
 
-func reg(n int64) lang.Operand { return lang.Operand{Reg: true, Num: n} }
-
-func num(n int64) lang.Operand { return lang.Operand{Num: n} }
-
 // reads looks that a text is the program.
 func reads(t *testing.T, text string, want ...lang.Instr) []lang.Instr {
 	t.Helper()
@@ -59,16 +55,6 @@ func faulty(t *testing.T, text string, e api.Errno, line, col int) {
 	if want := (lang.Fault{Err: e, Line: line, Col: col}); code != nil || f != want {
 		t.Errorf("Parse(%.200q) = %+v, %+v, want %+v", text, code, f, want)
 	}
-}
-
-// program is what a text says, which has no fault.
-func program(t *testing.T, text string) []lang.Instr {
-	t.Helper()
-	code, f := lang.Parse(text)
-	if f != (lang.Fault{}) {
-		t.Fatalf("Parse(%.200q): %+v", text, f)
-	}
-	return code
 }
 
 func prints(t *testing.T, code []lang.Instr, want string) {

@@ -5,6 +5,7 @@ import (
 	"testing"
 
 	"braid/api"
+	"braid/fixture"
 	"braid/lang"
 	"braid/word"
 )
@@ -21,10 +22,10 @@ func TestExample1(t *testing.T) {
 func TestExample2(t *testing.T) {
 	text := "get r1 @0\nadd r1 r1 1\nput @0 r1\ndone r1\n"
 	code := reads(t, text,
-		lang.Instr{Code: lang.Get, Dst: 1, Obj: num(0)},
-		lang.Instr{Code: lang.Calc, Dst: 1, X: reg(1), Y: num(1), Op: word.Add},
-		lang.Instr{Code: lang.Put, Obj: num(0), X: reg(1)},
-		lang.Instr{Code: lang.Done, X: reg(1)})
+		lang.Instr{Code: lang.Get, Dst: 1, Obj: fixture.Num(0)},
+		lang.Instr{Code: lang.Calc, Dst: 1, X: fixture.Reg(1), Y: fixture.Num(1), Op: word.Add},
+		lang.Instr{Code: lang.Put, Obj: fixture.Num(0), X: fixture.Reg(1)},
+		lang.Instr{Code: lang.Done, X: fixture.Reg(1)})
 	checks(t, code, api.OK, 0)
 	forward(t, code, true)
 	longest(t, code, 4, api.OK)
@@ -33,8 +34,8 @@ func TestExample2(t *testing.T) {
 
 func TestExample3(t *testing.T) {
 	code := reads(t, "a: b: let r0 5 # x\nif r0 > 0 b",
-		lang.Instr{Code: lang.Let, X: num(5)},
-		lang.Instr{Code: lang.If, X: reg(0), Y: num(0), Rel: word.Gt, To: 0})
+		lang.Instr{Code: lang.Let, X: fixture.Num(5)},
+		lang.Instr{Code: lang.If, X: fixture.Reg(0), Y: fixture.Num(0), Rel: word.Gt, To: 0})
 	prints(t, code, "l0:\nlet r0 5\nif r0 > 0 l0\n")
 	forward(t, code, false)
 	longest(t, code, 0, api.ErrLoop)
@@ -83,8 +84,8 @@ func TestExample9(t *testing.T) {
 }
 
 func TestExample10(t *testing.T) {
-	longest(t, program(t, "if r0 == 0 a\nlet r1 1\nlet r2 2\na: done r1"), 4, api.OK)
-	longest(t, program(t, "done 0\nx: goto x"), 1, api.OK)
+	longest(t, fixture.Program(t, "if r0 == 0 a\nlet r1 1\nlet r2 2\na: done r1"), 4, api.OK)
+	longest(t, fixture.Program(t, "done 0\nx: goto x"), 1, api.OK)
 }
 
 func TestNumbersOfTheLayer(t *testing.T) {
@@ -106,27 +107,27 @@ func TestNumbersOfTheLayer(t *testing.T) {
 // spoil writes over a list and the room behind it.
 func spoil(code []lang.Instr) {
 	for i := range code[:cap(code)] {
-		code[:cap(code)][i] = lang.Instr{Code: -7, Dst: -7, Obj: reg(-7), X: reg(-7), Y: reg(-7), Op: -7, Rel: -7, To: -7}
+		code[:cap(code)][i] = lang.Instr{Code: -7, Dst: -7, Obj: fixture.Reg(-7), X: fixture.Reg(-7), Y: fixture.Reg(-7), Op: -7, Rel: -7, To: -7}
 	}
 }
 
 func TestAnswersShareNothing(t *testing.T) {
 	text := "x: get r3 @r2\nif r3 < 7 x\nadd r1 r2 r3\ngoto y\nput @1 r2\ny: done r3\n"
-	first := program(t, text)
+	first := fixture.Program(t, text)
 	want := slices.Clone(first)
-	second := program(t, text)
+	second := fixture.Program(t, text)
 	spoil(first)
 	if !slices.Equal(second, want) {
 		t.Errorf("the second answer holds %+v", second)
 	}
-	if third := program(t, text); !slices.Equal(third, want) {
+	if third := fixture.Program(t, text); !slices.Equal(third, want) {
 		t.Errorf("the third answer is %+v", third)
 	}
 }
 
 func TestNothingHandedInIsChanged(t *testing.T) {
 	text := lines(10, "if r0 == 1 x") + "x: y: done 1"
-	room := append(program(t, text), lang.Instr{Code: lang.Quit}, lang.Instr{Code: 99, To: 99})
+	room := append(fixture.Program(t, text), lang.Instr{Code: lang.Quit}, lang.Instr{Code: 99, To: 99})
 	want := slices.Clone(room)
 	code := room[:11]
 	checks(t, code, api.OK, 0)

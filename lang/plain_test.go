@@ -12,20 +12,6 @@ import (
 	"braid/word"
 )
 
-// dice gives the same numbers at every run.
-type dice uint64
-
-func (d *dice) roll() uint64 {
-	*d ^= *d << 13
-	*d ^= *d >> 7
-	*d ^= *d << 17
-	return uint64(*d)
-}
-
-func (d *dice) below(n int) int { return int(d.roll() % uint64(n)) }
-
-func pick[T any](d *dice, from ...T) T { return from[d.below(len(from))] }
-
 // What follows says the chapter once more, as plainly as can be: words and operands by patterns, instructions by the
 // forms of the chapter's table, walks by the sets of places that they have come to.
 

@@ -7,6 +7,7 @@ import (
 	"testing"
 
 	"braid/api"
+	"braid/fixture"
 	"braid/lang"
 	"braid/word"
 )
@@ -52,61 +53,61 @@ func sameCode(t *testing.T, code []lang.Instr) (check, walk api.Errno) {
 }
 
 // thrownLine is a line with a fault now and then.
-func thrownLine(d *dice) string {
-	gap := func() string { return pick(d, " ", " ", " ", "  ", "\t", " \t") }
-	line := pick(d, "", "", "", " ", "\t")
-	for d.below(4) == 0 {
-		line += pick(d, "a", "b", "c", "d1", "r1", "quit", "abcdefghijklmnop", "e", "f", "g", "h", "i", "X", "", "abcdefghijklmnopq") + ":" + gap()
+func thrownLine(d *fixture.Dice) string {
+	gap := func() string { return fixture.Pick(d, " ", " ", " ", "  ", "\t", " \t") }
+	line := fixture.Pick(d, "", "", "", " ", "\t")
+	for d.Below(4) == 0 {
+		line += fixture.Pick(d, "a", "b", "c", "d1", "r1", "quit", "abcdefghijklmnop", "e", "f", "g", "h", "i", "X", "", "abcdefghijklmnopq") + ":" + gap()
 	}
-	if d.below(8) == 0 {
-		return line + pick(d, "", "#", "# x", "#x:")
+	if d.Below(8) == 0 {
+		return line + fixture.Pick(d, "", "#", "# x", "#x:")
 	}
-	form := strings.Fields(pick(d, codes...).form)
+	form := strings.Fields(fixture.Pick(d, codes...).form)
 	if form[0] == "add" {
-		form[0] = pick(d, strings.Fields(operators)...)
+		form[0] = fixture.Pick(d, strings.Fields(operators)...)
 	}
 	for k, kind := range form[1:] {
-		form[k+1] = pick(d, good[kind]...)
+		form[k+1] = fixture.Pick(d, good[kind]...)
 		if kind == "LABEL" {
-			form[k+1] = pick(d, "a", "b", "c", "d1", "r1")
+			form[k+1] = fixture.Pick(d, "a", "b", "c", "d1", "r1")
 		}
-		if d.below(60) == 0 {
-			form[k+1] = pick(d, bad[kind]...)
+		if d.Below(60) == 0 {
+			form[k+1] = fixture.Pick(d, bad[kind]...)
 		}
 	}
-	switch d.below(60) {
+	switch d.Below(60) {
 	case 0:
-		form[0] = pick(d, "stop", "Get", "r1", "1", "==", "calc", "ä", "x\r")
+		form[0] = fixture.Pick(d, "stop", "Get", "r1", "1", "==", "calc", "ä", "x\r")
 	case 1:
 		form = form[:len(form)-1]
 	case 2:
-		form = append(form, pick(d, "x", "x:", "1", "\r"))
+		form = append(form, fixture.Pick(d, "x", "x:", "1", "\r"))
 	}
 	for _, text := range form {
 		line += text + gap()
 	}
-	return line + pick(d, "", "", "# x", "#")
+	return line + fixture.Pick(d, "", "", "# x", "#")
 }
 
 // Texts thrown together, with the first faults counted: each of them has been.
 func TestThrownTexts(t *testing.T) {
-	d := dice(88172645463325252)
+	d := fixture.NewDice()
 	seen := map[api.Errno]int{}
 	for range 6000 {
 		var text []string
-		if d.below(3) > 0 {
+		if d.Below(3) > 0 {
 			text = append(text, "a:", "b: c:")
 		}
-		for range d.below(pick(&d, 4, 12)) {
+		for range d.Below(fixture.Pick(&d, 4, 12)) {
 			text = append(text, thrownLine(&d))
 		}
-		if d.below(2) == 0 {
+		if d.Below(2) == 0 {
 			text = append(text, "d1: r1:")
 		}
 		seen[sameText(t, strings.Join(text, "\n")).Err]++
 	}
 	for range 200 {
-		text := lines(60+d.below(5), "quit")
+		text := lines(60+d.Below(5), "quit")
 		for range 6 {
 			text += thrownLine(&d) + "\n"
 		}
@@ -133,15 +134,15 @@ func TestEveryByte(t *testing.T) {
 
 // A good text with some of its bytes changed, taken out or doubled.
 func TestSpoiltTexts(t *testing.T) {
-	d := dice(88172645463325252)
+	d := fixture.NewDice()
 	text := "a: get r1 @0\nb: take r15 @r3 # x\nput @-1 -9\ndrop @r0\nlet r2 12\nshr r4 r5 6\nif r1 >= 0 a\ngoto b\nquit\ndone r7\n"
 	seen := map[api.Errno]int{}
 	for range 4000 {
 		spoilt := text
-		for range 1 + d.below(3) {
-			at := d.below(len(spoilt))
-			c := pick(&d, spoilt[at:at+1], spoilt[d.below(len(spoilt)):][:1], " ", "\n", "\t", "#", ":", "r", "@", "0", "-", "a", "\r", "\x80")
-			spoilt = spoilt[:at] + pick(&d, "", c, c+c) + spoilt[at+d.below(2):]
+		for range 1 + d.Below(3) {
+			at := d.Below(len(spoilt))
+			c := fixture.Pick(&d, spoilt[at:at+1], spoilt[d.Below(len(spoilt)):][:1], " ", "\n", "\t", "#", ":", "r", "@", "0", "-", "a", "\r", "\x80")
+			spoilt = spoilt[:at] + fixture.Pick(&d, "", c, c+c) + spoilt[at+d.Below(2):]
 		}
 		seen[sameText(t, spoilt).Err]++
 	}
@@ -153,18 +154,18 @@ func TestSpoiltTexts(t *testing.T) {
 }
 
 // thrownCode is a program of so many instructions, jumps the most of them if they are to be.
-func thrownCode(d *dice, size, jumps int) []lang.Instr {
+func thrownCode(d *fixture.Dice, size, jumps int) []lang.Instr {
 	operand := func() lang.Operand {
-		return pick(d, reg(int64(d.below(16))), num(int64(d.below(40)-20)), num(math.MinInt64), num(math.MaxInt64))
+		return fixture.Pick(d, fixture.Reg(int64(d.Below(16))), fixture.Num(int64(d.Below(40)-20)), fixture.Num(math.MinInt64), fixture.Num(math.MaxInt64))
 	}
 	var code []lang.Instr
 	for place := range size {
-		in := lang.Instr{Code: lang.Code(1 + d.below(10))}
-		if d.below(10) < jumps {
-			in.Code = pick(d, lang.If, lang.If, lang.Goto)
+		in := lang.Instr{Code: lang.Code(1 + d.Below(10))}
+		if d.Below(10) < jumps {
+			in.Code = fixture.Pick(d, lang.If, lang.If, lang.Goto)
 		}
 		if uses(in.Code, "Dst") {
-			in.Dst = d.below(16)
+			in.Dst = d.Below(16)
 		}
 		if uses(in.Code, "Obj") {
 			in.Obj = operand()
@@ -176,13 +177,13 @@ func thrownCode(d *dice, size, jumps int) []lang.Instr {
 			in.Y = operand()
 		}
 		if uses(in.Code, "Op") {
-			in.Op = word.Op(1 + d.below(12))
+			in.Op = word.Op(1 + d.Below(12))
 		}
 		if uses(in.Code, "Rel") {
-			in.Rel = word.Rel(1 + d.below(6))
+			in.Rel = word.Rel(1 + d.Below(6))
 		}
 		if uses(in.Code, "To") {
-			in.To = pick(d, d.below(size+1), min(size, place+1+d.below(3)), min(size, place+1+d.below(3)), size)
+			in.To = fixture.Pick(d, d.Below(size+1), min(size, place+1+d.Below(3)), min(size, place+1+d.Below(3)), size)
 		}
 		code = append(code, in)
 	}
@@ -190,10 +191,10 @@ func thrownCode(d *dice, size, jumps int) []lang.Instr {
 }
 
 // spoilField changes one field of an instruction, which it may be in its bounds behind that as well.
-func spoilField(d *dice, in *lang.Instr) {
-	n := pick(d, -1, 0, 1, 2, 6, 7, 12, 13, 15, 16, 64, math.MinInt, math.MaxInt)
-	o := lang.Operand{Reg: d.below(2) == 0, Num: int64(n)}
-	switch d.below(8) {
+func spoilField(d *fixture.Dice, in *lang.Instr) {
+	n := fixture.Pick(d, -1, 0, 1, 2, 6, 7, 12, 13, 15, 16, 64, math.MinInt, math.MaxInt)
+	o := lang.Operand{Reg: d.Below(2) == 0, Num: int64(n)}
+	switch d.Below(8) {
 	case 0:
 		in.Code = lang.Code(n)
 	case 1:
@@ -214,17 +215,17 @@ func spoilField(d *dice, in *lang.Instr) {
 }
 
 func TestThrownPrograms(t *testing.T) {
-	d := dice(88172645463325252)
+	d := fixture.NewDice()
 	seen := map[api.Errno]int{}
 	for range 3000 {
-		code := thrownCode(&d, d.below(pick(&d, 4, 8, 16, 65)), d.below(8))
+		code := thrownCode(&d, d.Below(fixture.Pick(&d, 4, 8, 16, 65)), d.Below(8))
 		_, walk := sameCode(t, code)
 		seen[walk]++
 		if len(code) == 0 {
 			continue
 		}
-		for range 1 + d.below(2) {
-			spoilField(&d, &code[d.below(len(code))])
+		for range 1 + d.Below(2) {
+			spoilField(&d, &code[d.Below(len(code))])
 		}
 		check, _ := sameCode(t, code)
 		seen[check]++

@@ -7,22 +7,23 @@ import (
 	"testing"
 
 	"braid/api"
+	"braid/fixture"
 	"braid/lang"
 	"braid/word"
 )
 
 // usual is an instruction of each code whose used fields are all other than zero, where the code has such fields.
 var usual = []lang.Instr{
-	{Code: lang.Get, Dst: 1, Obj: reg(2)},
-	{Code: lang.Take, Dst: 3, Obj: num(4)},
-	{Code: lang.Put, Obj: reg(5), X: num(-6)},
-	{Code: lang.Drop, Obj: num(7)},
-	{Code: lang.Let, Dst: 8, X: reg(9)},
-	{Code: lang.Calc, Dst: 10, X: num(-11), Y: reg(12), Op: word.Max},
-	{Code: lang.If, X: reg(13), Y: num(14), Rel: word.Le, To: 1},
+	{Code: lang.Get, Dst: 1, Obj: fixture.Reg(2)},
+	{Code: lang.Take, Dst: 3, Obj: fixture.Num(4)},
+	{Code: lang.Put, Obj: fixture.Reg(5), X: fixture.Num(-6)},
+	{Code: lang.Drop, Obj: fixture.Num(7)},
+	{Code: lang.Let, Dst: 8, X: fixture.Reg(9)},
+	{Code: lang.Calc, Dst: 10, X: fixture.Num(-11), Y: fixture.Reg(12), Op: word.Max},
+	{Code: lang.If, X: fixture.Reg(13), Y: fixture.Num(14), Rel: word.Le, To: 1},
 	{Code: lang.Goto, To: 1},
 	{Code: lang.Quit},
-	{Code: lang.Done, X: reg(15)},
+	{Code: lang.Done, X: fixture.Reg(15)},
 }
 
 // alone looks whether an instruction can be, at the last place of programs of one and of three instructions.
@@ -121,9 +122,9 @@ func TestOperands(t *testing.T) {
 		for _, in := range usual {
 			used := uses(in.Code, name)
 			for _, n := range append([]int{math.MinInt64, math.MaxInt64}, whole...) {
-				*field(&in) = reg(int64(n))
+				*field(&in) = fixture.Reg(int64(n))
 				alone(t, in, used && n >= 0 && n <= 15)
-				*field(&in) = num(int64(n))
+				*field(&in) = fixture.Num(int64(n))
 				alone(t, in, used || n == 0)
 			}
 		}
@@ -168,11 +169,11 @@ func TestPrintNames(t *testing.T) {
 	var code []lang.Instr
 	var text strings.Builder
 	for i, name := range strings.Fields(operators) {
-		code = append(code, lang.Instr{Code: lang.Calc, Dst: i, X: reg(int64(15 - i)), Y: num(int64(i)), Op: word.Op(i + 1)})
+		code = append(code, lang.Instr{Code: lang.Calc, Dst: i, X: fixture.Reg(int64(15 - i)), Y: fixture.Num(int64(i)), Op: word.Op(i + 1)})
 		text.WriteString(name + " r" + word.Format(int64(i)) + " r" + word.Format(int64(15-i)) + " " + word.Format(int64(i)) + "\n")
 	}
 	for i, name := range strings.Fields(relations) {
-		code = append(code, lang.Instr{Code: lang.If, X: num(math.MinInt64), Y: num(math.MaxInt64), Rel: word.Rel(i + 1), To: 18})
+		code = append(code, lang.Instr{Code: lang.If, X: fixture.Num(math.MinInt64), Y: fixture.Num(math.MaxInt64), Rel: word.Rel(i + 1), To: 18})
 		text.WriteString("if -9223372036854775808 " + name + " 9223372036854775807 l0\n")
 	}
 	prints(t, code, text.String()+"l0:\n")
@@ -201,7 +202,7 @@ func TestPrintLabels(t *testing.T) {
 
 // The longest texts that there are keep to MaxText, and are read again.
 func TestPrintFits(t *testing.T) {
-	least := num(math.MinInt64)
+	least := fixture.Num(math.MinInt64)
 	for _, in := range []lang.Instr{{Code: lang.If, X: least, Y: least, Rel: word.Ge}, {Code: lang.Calc, Dst: 15, X: least, Y: least, Op: word.Xor}} {
 		code := slices.Repeat([]lang.Instr{in}, 64)
 		for place := range code {
@@ -236,7 +237,7 @@ func TestForward(t *testing.T) {
 		"goto a\na: goto b\nb: goto c\nc: quit\ngoto d\nd:": true,
 		"goto a\na: goto b\nb: goto c\nc: d: quit\ngoto d":  false,
 	} {
-		forward(t, program(t, text), want)
+		forward(t, fixture.Program(t, text), want)
 	}
 	// every place of a jump against every place that it goes to
 	for place := range 64 {
@@ -290,7 +291,7 @@ func TestLongest(t *testing.T) {
 		"goto e\na: let r1 1\nb: goto a\ne: let r1 1":     2,
 		"if 1 < 1 e\nquit\na: goto b\nb: goto a\ne: quit": 2,
 	} {
-		longest(t, program(t, text), want, api.OK)
+		longest(t, fixture.Program(t, text), want, api.OK)
 	}
 }
 
@@ -309,7 +310,7 @@ func TestLoops(t *testing.T) {
 		"x: get r1 @1\ntake r1 @1\nput @1 1\ndrop @1\nlet r1 1\nadd r1 1 1\ngoto x",
 		"goto c\na: goto b\nb: goto a\nc: if 1 < 1 d\nquit\nd: if 1 < 1 b\nquit",
 	} {
-		longest(t, program(t, text), 0, api.ErrLoop)
+		longest(t, fixture.Program(t, text), 0, api.ErrLoop)
 	}
 }
 

@@ -7,6 +7,7 @@ import (
 	"testing"
 
 	"braid/api"
+	"braid/fixture"
 	"braid/lang"
 	"braid/word"
 )
@@ -32,7 +33,7 @@ func TestComments(t *testing.T) {
 	reads(t, "quit#x y:", quit)
 	reads(t, "quit # x # y", quit)
 	reads(t, "x:#quit\nquit", quit)
-	reads(t, "let r1 12#34", lang.Instr{Code: lang.Let, Dst: 1, X: num(12)})
+	reads(t, "let r1 12#34", lang.Instr{Code: lang.Let, Dst: 1, X: fixture.Num(12)})
 	reads(t, "quit # up to the line's end\nquit", quit, quit)
 	faulty(t, "x#:", api.ErrWord, 1, 1)
 	faulty(t, "qu#it", api.ErrWord, 1, 1)
@@ -43,7 +44,7 @@ func TestComments(t *testing.T) {
 }
 
 func TestBlanks(t *testing.T) {
-	let := lang.Instr{Code: lang.Let, Dst: 1, X: num(7)}
+	let := lang.Instr{Code: lang.Let, Dst: 1, X: fixture.Num(7)}
 	reads(t, " \t \n\t\n ")
 	reads(t, "  let r1 7  ", let)
 	reads(t, "\tlet\tr1\t7\t", let)
@@ -167,7 +168,7 @@ func TestPlaces(t *testing.T) {
 	reads(t, "a:\n\nb: # here\n c: d: quit\ngoto a\ngoto b\ngoto c\ngoto d", quit, jump(0), jump(0), jump(0), jump(0))
 	reads(t, "goto a\ngoto b\na: b:", jump(2), jump(2))
 	reads(t, "quit\na:\nb: goto a\nc:\n\nd:\ngoto c\ngoto d\ne:\n", quit, jump(1), jump(2), jump(2))
-	reads(t, "a: if r1 >= -1 b\ngoto a\nb:", lang.Instr{Code: lang.If, X: reg(1), Y: num(-1), Rel: word.Ge, To: 2}, jump(0))
+	reads(t, "a: if r1 >= -1 b\ngoto a\nb:", lang.Instr{Code: lang.If, X: fixture.Reg(1), Y: fixture.Num(-1), Rel: word.Ge, To: 2}, jump(0))
 	reads(t, "a: b:")
 	reads(t, lines(63, "quit")+"goto e\ne:", append(slices.Repeat([]lang.Instr{quit}, 63), jump(64))...)
 	// one label may be wanted many times
@@ -189,8 +190,8 @@ func TestMany(t *testing.T) {
 func TestRegisters(t *testing.T) {
 	for n := range 16 {
 		text := "r" + word.Format(int64(n))
-		reads(t, "let "+text+" "+text, lang.Instr{Code: lang.Let, Dst: n, X: reg(int64(n))})
-		reads(t, "get "+text+" @"+text, lang.Instr{Code: lang.Get, Dst: n, Obj: reg(int64(n))})
+		reads(t, "let "+text+" "+text, lang.Instr{Code: lang.Let, Dst: n, X: fixture.Reg(int64(n))})
+		reads(t, "get "+text+" @"+text, lang.Instr{Code: lang.Get, Dst: n, Obj: fixture.Reg(int64(n))})
 	}
 	for _, text := range []string{"r16", "r17", "r99", "r100", "r01", "r00", "r015", "r-1", "r-0", "r+1", "r", "R1", "r1x", "rr1", "r1.", "r٣",
 		"r4294967296", "r18446744073709551616", "r9223372036854775808", "r9223372036854775807", "r-9223372036854775808", "r0x1", "r1:", "x1", "@r1"} {
@@ -208,10 +209,10 @@ func TestRegisters(t *testing.T) {
 func TestNumbers(t *testing.T) {
 	for _, n := range []int64{0, 1, -1, 9, 10, 15, 16, 17, 1 << 31, -1 << 31, math.MaxInt64, math.MaxInt64 - 1, math.MinInt64, math.MinInt64 + 1} {
 		text := word.Format(n)
-		reads(t, "done "+text, lang.Instr{Code: lang.Done, X: num(n)})
-		reads(t, "put @"+text+" "+text, lang.Instr{Code: lang.Put, Obj: num(n), X: num(n)})
-		reads(t, "if "+text+" != "+text+" a\na:", lang.Instr{Code: lang.If, X: num(n), Y: num(n), Rel: word.Ne, To: 1})
-		reads(t, "shl r3 "+text+" "+text, lang.Instr{Code: lang.Calc, Dst: 3, X: num(n), Y: num(n), Op: word.Shl})
+		reads(t, "done "+text, lang.Instr{Code: lang.Done, X: fixture.Num(n)})
+		reads(t, "put @"+text+" "+text, lang.Instr{Code: lang.Put, Obj: fixture.Num(n), X: fixture.Num(n)})
+		reads(t, "if "+text+" != "+text+" a\na:", lang.Instr{Code: lang.If, X: fixture.Num(n), Y: fixture.Num(n), Rel: word.Ne, To: 1})
+		reads(t, "shl r3 "+text+" "+text, lang.Instr{Code: lang.Calc, Dst: 3, X: fixture.Num(n), Y: fixture.Num(n), Op: word.Shl})
 	}
 	for _, text := range []string{"9223372036854775808", "-9223372036854775809", "99999999999999999999999", "-99999999999999999999999", "00", "01", "-0", "-01", "+1", "-", "--1", "1x", "x", "1.0", "1e3", "0x10", "1_0", "٣", "1:", "1\r"} {
 		faulty(t, "done "+text, api.ErrOperand, 1, 6)
@@ -225,10 +226,10 @@ func TestNumbers(t *testing.T) {
 }
 
 func TestObjects(t *testing.T) {
-	for text, obj := range map[string]lang.Operand{"@3": num(3), "@r3": reg(3), "@-1": num(-1), "@0": num(0), "@r0": reg(0), "@r15": reg(15), "@80": num(80), "@16": num(16)} {
+	for text, obj := range map[string]lang.Operand{"@3": fixture.Num(3), "@r3": fixture.Reg(3), "@-1": fixture.Num(-1), "@0": fixture.Num(0), "@r0": fixture.Reg(0), "@r15": fixture.Reg(15), "@80": fixture.Num(80), "@16": fixture.Num(16)} {
 		reads(t, "get r2 "+text, lang.Instr{Code: lang.Get, Dst: 2, Obj: obj})
 		reads(t, "take r2 "+text, lang.Instr{Code: lang.Take, Dst: 2, Obj: obj})
-		reads(t, "put "+text+" r9", lang.Instr{Code: lang.Put, Obj: obj, X: reg(9)})
+		reads(t, "put "+text+" r9", lang.Instr{Code: lang.Put, Obj: obj, X: fixture.Reg(9)})
 		reads(t, "drop "+text, lang.Instr{Code: lang.Drop, Obj: obj})
 	}
 	for _, text := range []string{"@", "@@1", "@@", "3", "r3", "-1", "@r16", "@r01", "@r", "@x", "@-", "@-0", "@03", "@+3", "@3:", "@3x", "x@3", "@R3", "3@"} {
@@ -241,7 +242,7 @@ func TestObjects(t *testing.T) {
 
 func TestRelations(t *testing.T) {
 	for i, name := range strings.Fields(relations) {
-		reads(t, "if r1 "+name+" 2 a\na:", lang.Instr{Code: lang.If, X: reg(1), Y: num(2), Rel: word.Eq + word.Rel(i), To: 1})
+		reads(t, "if r1 "+name+" 2 a\na:", lang.Instr{Code: lang.If, X: fixture.Reg(1), Y: fixture.Num(2), Rel: word.Eq + word.Rel(i), To: 1})
 	}
 	for _, text := range []string{"=", "===", "=<", "=>", "<>", "!", "<<", "eq", "lt", "1", "r1", "@1", "==:", ":", "add"} {
 		faulty(t, "if r1 "+text+" 2 a", api.ErrOperand, 1, 7)
@@ -251,7 +252,7 @@ func TestRelations(t *testing.T) {
 
 func TestOperators(t *testing.T) {
 	for i, name := range strings.Fields(operators) {
-		reads(t, name+" r4 r5 -6", lang.Instr{Code: lang.Calc, Dst: 4, X: reg(5), Y: num(-6), Op: word.Add + word.Op(i)})
+		reads(t, name+" r4 r5 -6", lang.Instr{Code: lang.Calc, Dst: 4, X: fixture.Reg(5), Y: fixture.Num(-6), Op: word.Add + word.Op(i)})
 	}
 	for _, name := range []string{"Add", "ADD", "calc", "neg", "not", "mod", "adda", "ad", "+"} {
 		faulty(t, name+" r4 r5 -6", api.ErrWord, 1, 1)
@@ -303,13 +304,13 @@ func TestEachOperand(t *testing.T) {
 			}
 			head += " " + good[kind][0]
 		}
-		if code := program(t, head); len(code) != 1 || code[0].Code != c.code {
+		if code := fixture.Program(t, head); len(code) != 1 || code[0].Code != c.code {
 			t.Errorf("%q: %+v", head, code)
 		}
 		for _, text := range []string{"x", "x:", "r1", "1", ":", "\r", "quit", "-"} {
 			faulty(t, head+"\t "+text+" y", api.ErrExtra, 1, len(head)+3)
 		}
-		program(t, head+" # x")
+		fixture.Program(t, head+" # x")
 	}
 }
 
@@ -317,16 +318,16 @@ func TestEachOperand(t *testing.T) {
 func TestFields(t *testing.T) {
 	text := "x: get r1 @r2\ntake r3 @4\nput @r5 -6\ndrop @7\nlet r8 r9\nmax r10 -11 r12\nif r13 <= 14 e\ngoto e\nquit\ndone r15\ne:"
 	reads(t, text,
-		lang.Instr{Code: lang.Get, Dst: 1, Obj: reg(2)},
-		lang.Instr{Code: lang.Take, Dst: 3, Obj: num(4)},
-		lang.Instr{Code: lang.Put, Obj: reg(5), X: num(-6)},
-		lang.Instr{Code: lang.Drop, Obj: num(7)},
-		lang.Instr{Code: lang.Let, Dst: 8, X: reg(9)},
-		lang.Instr{Code: lang.Calc, Dst: 10, X: num(-11), Y: reg(12), Op: word.Max},
-		lang.Instr{Code: lang.If, X: reg(13), Y: num(14), Rel: word.Le, To: 10},
+		lang.Instr{Code: lang.Get, Dst: 1, Obj: fixture.Reg(2)},
+		lang.Instr{Code: lang.Take, Dst: 3, Obj: fixture.Num(4)},
+		lang.Instr{Code: lang.Put, Obj: fixture.Reg(5), X: fixture.Num(-6)},
+		lang.Instr{Code: lang.Drop, Obj: fixture.Num(7)},
+		lang.Instr{Code: lang.Let, Dst: 8, X: fixture.Reg(9)},
+		lang.Instr{Code: lang.Calc, Dst: 10, X: fixture.Num(-11), Y: fixture.Reg(12), Op: word.Max},
+		lang.Instr{Code: lang.If, X: fixture.Reg(13), Y: fixture.Num(14), Rel: word.Le, To: 10},
 		lang.Instr{Code: lang.Goto, To: 10},
 		lang.Instr{Code: lang.Quit},
-		lang.Instr{Code: lang.Done, X: reg(15)})
+		lang.Instr{Code: lang.Done, X: fixture.Reg(15)})
 }
 
 // Of two faults in one text the upper one is told, in a line the left one, and an unknown label behind all others.

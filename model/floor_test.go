@@ -6,6 +6,7 @@ import (
 	"testing"
 
 	"braid/api"
+	"braid/fixture"
 	"braid/lang"
 	"braid/model"
 )
@@ -21,20 +22,6 @@ type objects = []int64
 type given = []api.Given
 
 func use(n int64) api.Given { return api.Given{Use: true, Value: n} }
-
-func reg(n int64) lang.Operand { return lang.Operand{Reg: true, Num: n} }
-
-func num(n int64) lang.Operand { return lang.Operand{Num: n} }
-
-// program is what a text says, which has no fault.
-func program(t *testing.T, text string) []lang.Instr {
-	t.Helper()
-	code, f := lang.Parse(text)
-	if f != (lang.Fault{}) {
-		t.Fatalf("Parse(%.200q): %+v", text, f)
-	}
-	return code
-}
 
 func alone(outcome int, result int64, left objects, count int) api.Alone {
 	return api.Alone{Outcome: outcome, Result: result, Objects: left, Count: count}
@@ -60,7 +47,7 @@ func answer(t *testing.T, code []lang.Instr, over objects, g given, fuel int) ap
 
 func runs(t *testing.T, text string, over objects, g given, fuel int, want api.Alone) {
 	t.Helper()
-	if a := answer(t, program(t, text), over, g, fuel); !same(a, want) {
+	if a := answer(t, fixture.Program(t, text), over, g, fuel); !same(a, want) {
 		t.Errorf("Run(%q, %v, %v, %d) = %+v, want %+v", text, over, g, fuel, a, want)
 	}
 }
@@ -68,7 +55,7 @@ func runs(t *testing.T, text string, over objects, g given, fuel int, want api.A
 // commits looks at a run with fuel enough that commits: its result and what it leaves.
 func commits(t *testing.T, text string, over objects, g given, result int64, left objects) {
 	t.Helper()
-	a := answer(t, program(t, text), over, g, api.MaxFuel)
+	a := answer(t, fixture.Program(t, text), over, g, api.MaxFuel)
 	if !same(a, alone(api.EndCommit, result, left, a.Count)) {
 		t.Errorf("Run(%q, %v, %v) = %+v, want the result %d and %v", text, over, g, a, result, left)
 	}

@@ -5,6 +5,7 @@ import (
 	"testing"
 
 	"braid/api"
+	"braid/fixture"
 	"braid/lang"
 	"braid/model"
 )
@@ -62,8 +63,8 @@ func TestExample9(t *testing.T) {
 }
 
 func TestExample10(t *testing.T) {
-	p := program(t, inc)
-	series(t, [][]lang.Instr{p, program(t, "quit"), p}, objects{5}, 100,
+	p := fixture.Program(t, inc)
+	series(t, [][]lang.Instr{p, fixture.Program(t, "quit"), p}, objects{5}, 100,
 		alone(api.EndCommit, 6, objects{6}, 4), alone(api.EndUser, 0, objects{6}, 1), alone(api.EndCommit, 7, objects{7}, 4))
 }
 
@@ -79,8 +80,8 @@ func TestRefusedProgram(t *testing.T) {
 		{[]lang.Instr{{Code: lang.Done}, {Code: lang.Done + 1}}, api.ErrCode},
 		{[]lang.Instr{{Code: lang.Let, Dst: lang.MaxRegs}}, api.ErrCode},
 		{[]lang.Instr{{Code: lang.Let, Dst: -1}}, api.ErrCode},
-		{[]lang.Instr{{Code: lang.Done, X: reg(lang.MaxRegs)}}, api.ErrCode},
-		{[]lang.Instr{{Code: lang.Drop, Obj: reg(-1)}}, api.ErrCode},
+		{[]lang.Instr{{Code: lang.Done, X: fixture.Reg(lang.MaxRegs)}}, api.ErrCode},
+		{[]lang.Instr{{Code: lang.Drop, Obj: fixture.Reg(-1)}}, api.ErrCode},
 		{[]lang.Instr{{Code: lang.Calc}}, api.ErrCode},
 		{[]lang.Instr{{Code: lang.If}}, api.ErrCode},
 		{[]lang.Instr{{Code: lang.Goto, To: 2}}, api.ErrCode},
@@ -101,7 +102,7 @@ func TestRefusedProgram(t *testing.T) {
 // The three errors of the layer, each beside those that come later.
 func TestRefused(t *testing.T) {
 	fuels := append([]int{-1, 10001, -2, 10002, 1 << 32}, far...)
-	for _, code := range [][]lang.Instr{nil, {}, program(t, inc), program(t, "x: goto x")} {
+	for _, code := range [][]lang.Instr{nil, {}, fixture.Program(t, inc), fixture.Program(t, "x: goto x")} {
 		for _, over := range []int{17, 18, 32, 1000} {
 			for _, g := range []int{0, 4096, 4097} {
 				for _, fuel := range append(fuels, 0, 5, 10000) {
@@ -133,7 +134,7 @@ func TestLimits(t *testing.T) {
 	g := make(given, api.MaxGiven)
 	runs(t, "get r15 @15\nadd r15 r15 1\nput @15 r15", over, g, api.MaxFuel, alone(api.EndCommit, 0, left, 4))
 	runs(t, inc, over, g, 0, alone(api.EndNone, 0, over, 0))
-	a := answer(t, slicesOf(lang.MaxCode, lang.Instr{Code: lang.Let, X: num(1)}), over, g, api.MaxFuel)
+	a := answer(t, slicesOf(lang.MaxCode, lang.Instr{Code: lang.Let, X: fixture.Num(1)}), over, g, api.MaxFuel)
 	if !same(a, alone(api.EndCommit, 0, over, lang.MaxCode+1)) {
 		t.Errorf("64 instructions: %+v", a)
 	}
@@ -149,12 +150,12 @@ func TestLimits(t *testing.T) {
 
 // What the run answers is told by the numbers that it was given, and by nothing of a run ahead of it.
 func TestNothingIsKept(t *testing.T) {
-	first := answer(t, program(t, inc), objects{5}, nil, 100)
-	answer(t, program(t, "let r0 9\nlet r1 9\nput @0 9\ndone 9"), objects{0}, given{use(3)}, 100)
+	first := answer(t, fixture.Program(t, inc), objects{5}, nil, 100)
+	answer(t, fixture.Program(t, "let r0 9\nlet r1 9\nput @0 9\ndone 9"), objects{0}, given{use(3)}, 100)
 	if _, e := model.Run(refusedCode, nil, nil, 1); e != api.ErrCode {
 		t.Errorf("Run of a program that is refused: %d", e)
 	}
-	if again := answer(t, program(t, inc), objects{5}, nil, 100); !same(first, again) {
+	if again := answer(t, fixture.Program(t, inc), objects{5}, nil, 100); !same(first, again) {
 		t.Errorf("%+v, then %+v", first, again)
 	}
 }

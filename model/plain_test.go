@@ -9,20 +9,6 @@ import (
 	"braid/lang"
 )
 
-// dice gives the same numbers at every run.
-type dice uint64
-
-func (d *dice) roll() uint64 {
-	*d ^= *d << 13
-	*d ^= *d >> 7
-	*d ^= *d << 17
-	return uint64(*d)
-}
-
-func (d *dice) below(n int) int { return int(d.roll() % uint64(n)) }
-
-func pick[T any](d *dice, from ...T) T { return from[d.below(len(from))] }
-
 // What follows says the chapter once more, as plainly as can be: the program is its printed text, gone through word by
 // word; of the objects nothing is kept but what happened to them, and what is own or held is looked up in that.
 

@@ -1,86 +1,40 @@
 package model_test
 
 import (
-	"math"
 	"slices"
 	"testing"
 
 	"braid/api"
+	"braid/fixture"
 	"braid/lang"
 	"braid/model"
-	"braid/word"
 )
 
-// thrownCode is a program of so many instructions over so many objects, which names a bad object now and then.
-func thrownCode(d *dice, size, many int) []lang.Instr {
-	source := func() lang.Operand {
-		return pick(d, reg(int64(d.below(6))), reg(int64(d.below(16))), num(int64(d.below(8)-2)), num(pick(d, ends...)))
-	}
-	object := func() lang.Operand {
-		if d.below(40) == 0 || many == 0 {
-			return pick(d, num(int64(many)), num(-1), reg(int64(d.below(16))), num(math.MinInt64))
-		}
-		if d.below(6) == 0 {
-			return reg(int64(d.below(4)))
-		}
-		return num(int64(d.below(many)))
-	}
-	kinds := []lang.Code{lang.Get, lang.Get, lang.Get, lang.Take, lang.Put, lang.Put, lang.Drop, lang.Drop, lang.Let, lang.Calc, lang.Calc, lang.If, lang.If, lang.Goto}
-	var code []lang.Instr
-	for place := range size {
-		to := pick(d, d.below(size+1), min(size, place+1+d.below(3)), min(size, place+1+d.below(3)))
-		in := lang.Instr{Code: pick(d, kinds...)}
-		if d.below(30) == 0 {
-			in.Code = pick(d, lang.Quit, lang.Done, lang.Done)
-		}
-		switch in.Code {
-		case lang.Get, lang.Take:
-			in.Dst, in.Obj = 4+d.below(12), object()
-		case lang.Put:
-			in.Obj, in.X = object(), source()
-		case lang.Drop:
-			in.Obj = object()
-		case lang.Let:
-			in.Dst, in.X = d.below(16), source()
-		case lang.Calc:
-			in.Dst, in.X, in.Y, in.Op = 4+d.below(12), source(), source(), word.Op(1+d.below(12))
-		case lang.If:
-			in.X, in.Y, in.Rel, in.To = source(), source(), word.Rel(1+d.below(6)), to
-		case lang.Goto:
-			in.To = to
-		case lang.Done:
-			in.X = source()
-		}
-		code = append(code, in)
-	}
-	return code
-}
-
-func thrownMap(d *dice) objects {
-	over := make(objects, pick(d, 0, 1, 2, 3, 3, 4, 16))
+func thrownMap(d *fixture.Dice) objects {
+	over := make(objects, fixture.Pick(d, 0, 1, 2, 3, 3, 4, 16))
 	for x := range over {
-		over[x] = pick(d, int64(d.below(5)), int64(d.below(2000)-1000), pick(d, ends...))
+		over[x] = fixture.Pick(d, int64(d.Below(5)), int64(d.Below(2000)-1000), fixture.Pick(d, ends...))
 	}
 	return over
 }
 
-func thrownGiven(d *dice) given {
+func thrownGiven(d *fixture.Dice) given {
 	var g given
-	for range d.below(pick(d, 1, 3, 9)) {
-		g = append(g, api.Given{Use: d.below(3) > 0, Value: pick(d, int64(d.below(5)), int64(d.below(2000)-1000), pick(d, ends...))})
+	for range d.Below(fixture.Pick(d, 1, 3, 9)) {
+		g = append(g, api.Given{Use: d.Below(3) > 0, Value: fixture.Pick(d, int64(d.Below(5)), int64(d.Below(2000)-1000), fixture.Pick(d, ends...))})
 	}
 	return g
 }
 
 // Programs thrown together, held against the plain run, at the fuel that they need, one below and one above it.
 func TestThrownRuns(t *testing.T) {
-	d := dice(88172645463325252)
+	d := fixture.NewDice()
 	seen := map[int]int{}
 	for range 4000 {
 		over, g := thrownMap(&d), thrownGiven(&d)
-		code := thrownCode(&d, d.below(pick(&d, 4, 12, 30, 65)), len(over))
+		code := fixture.Code(&d, d.Below(fixture.Pick(&d, 4, 12, 30, 65)), len(over))
 		first, _ := plainAlone(code, over, g, 300)
-		for _, fuel := range []int{300, first.Count, first.Count - 1, first.Count + 1, d.below(60)} {
+		for _, fuel := range []int{300, first.Count, first.Count - 1, first.Count + 1, d.Below(60)} {
 			if fuel < 0 {
 				continue
 			}
@@ -101,14 +55,14 @@ func TestThrownRuns(t *testing.T) {
 
 // Series thrown together, held against runs over what the ones ahead of them left.
 func TestThrownSeries(t *testing.T) {
-	d := dice(88172645463325252)
+	d := fixture.NewDice()
 	for range 300 {
-		over, fuel := thrownMap(&d), d.below(60)
+		over, fuel := thrownMap(&d), d.Below(60)
 		var list progs
 		var want []api.Alone
 		on := over
-		for range d.below(8) {
-			list = append(list, thrownCode(&d, d.below(12), len(over)))
+		for range d.Below(8) {
+			list = append(list, fixture.Code(&d, d.Below(12), len(over)))
 			next, _ := plainAlone(list[len(list)-1], on, nil, fuel)
 			want = append(want, next)
 			on = next.Objects
@@ -122,23 +76,23 @@ func TestThrownSeries(t *testing.T) {
 
 // P11.9: behind a commit each number is the last put's, or the map's.
 func TestLastPutStays(t *testing.T) {
-	d := dice(88172645463325252)
+	d := fixture.NewDice()
 	seen := 0
 	for range 1000 {
-		over := objects{int64(d.below(9)), -5, 7}
+		over := objects{int64(d.Below(9)), -5, 7}
 		var code []lang.Instr
 		left := slices.Clone(over)
-		for range d.below(20) {
-			x, n := d.below(3), int64(d.below(100))
-			switch d.below(5) {
+		for range d.Below(20) {
+			x, n := d.Below(3), int64(d.Below(100))
+			switch d.Below(5) {
 			case 0:
-				code = append(code, lang.Instr{Code: lang.Get, Dst: d.below(16), Obj: num(int64(x))})
+				code = append(code, lang.Instr{Code: lang.Get, Dst: d.Below(16), Obj: fixture.Num(int64(x))})
 			case 1:
-				code = append(code, lang.Instr{Code: lang.Take, Dst: d.below(16), Obj: num(int64(x))})
+				code = append(code, lang.Instr{Code: lang.Take, Dst: d.Below(16), Obj: fixture.Num(int64(x))})
 			case 2:
-				code = append(code, lang.Instr{Code: lang.Drop, Obj: num(int64(x))})
+				code = append(code, lang.Instr{Code: lang.Drop, Obj: fixture.Num(int64(x))})
 			default:
-				code = append(code, lang.Instr{Code: lang.Put, Obj: num(int64(x)), X: num(n)})
+				code = append(code, lang.Instr{Code: lang.Put, Obj: fixture.Num(int64(x)), X: fixture.Num(n)})
 				left[x] = n
 				seen++
 			}
@@ -154,10 +108,10 @@ func TestLastPutStays(t *testing.T) {
 
 // P11.9 too: without a Put that is executed the map stays, whatever is given.
 func TestWithoutPutTheMapStays(t *testing.T) {
-	d := dice(88172645463325252)
+	d := fixture.NewDice()
 	for range 1500 {
 		over, g := thrownMap(&d), thrownGiven(&d)
-		code := slices.DeleteFunc(thrownCode(&d, d.below(20), len(over)), func(in lang.Instr) bool { return in.Code == lang.Put })
+		code := slices.DeleteFunc(fixture.Code(&d, d.Below(20), len(over)), func(in lang.Instr) bool { return in.Code == lang.Put })
 		for k := range code {
 			code[k].To = min(code[k].To, len(code))
 		}
@@ -169,11 +123,11 @@ func TestWithoutPutTheMapStays(t *testing.T) {
 
 // P11.10: a run that ends with Count n ends so with every fuel from n on, and with none below n.
 func TestFuelsAgree(t *testing.T) {
-	d := dice(88172645463325252)
+	d := fixture.NewDice()
 	seen := 0
 	for range 400 {
 		over, g := thrownMap(&d), thrownGiven(&d)
-		code := thrownCode(&d, d.below(20), len(over))
+		code := fixture.Code(&d, d.Below(20), len(over))
 		whole := answer(t, code, over, g, api.MaxFuel)
 		if whole.Outcome == api.EndNone {
 			continue
@@ -196,11 +150,11 @@ func TestFuelsAgree(t *testing.T) {
 
 // P11.11: where lang.Longest is n, every fuel from n + 1 on is enough, on every map.
 func TestLongestIsEnough(t *testing.T) {
-	d := dice(88172645463325252)
+	d := fixture.NewDice()
 	seen := 0
 	for range 3000 {
-		many := d.below(4)
-		code := thrownCode(&d, d.below(20), many)
+		many := d.Below(4)
+		code := fixture.Code(&d, d.Below(20), many)
 		n, e := lang.Longest(code)
 		if e != api.OK {
 			continue
@@ -222,16 +176,16 @@ func TestLongestIsEnough(t *testing.T) {
 
 // P11.12: giving what would be read changes nothing.
 func TestGivingWhatIsRead(t *testing.T) {
-	d := dice(88172645463325252)
+	d := fixture.NewDice()
 	seen := 0
 	for range 1500 {
 		over := thrownMap(&d)
-		code := thrownCode(&d, d.below(20), len(over))
+		code := fixture.Code(&d, d.Below(20), len(over))
 		plain := answer(t, code, over, nil, 200)
 		g := readsOf(code, over, 200)
 		seen += len(g)
 		for k := range g {
-			if d.below(3) == 0 {
+			if d.Below(3) == 0 {
 				g[k] = api.Given{Value: 12345}
 			}
 		}
@@ -258,12 +212,12 @@ func readsOf(code []lang.Instr, over objects, fuel int) given {
 
 // Runs beside one another share nothing.
 func TestRunsBesideOneAnother(t *testing.T) {
-	d := dice(88172645463325252)
+	d := fixture.NewDice()
 	over := objects{1, 2, 3}
 	g := given{use(4), {}, use(6)}
 	var list progs
 	for range 40 {
-		list = append(list, thrownCode(&d, 20, 3))
+		list = append(list, fixture.Code(&d, 20, 3))
 	}
 	told := make(chan api.Alone)
 	for _, code := range list {

@@ -7,6 +7,7 @@ import (
 	"testing"
 
 	"braid/api"
+	"braid/fixture"
 	"braid/lang"
 	"braid/word"
 )
@@ -128,8 +129,8 @@ func TestReads(t *testing.T) {
 		{"get r1 @0\ndrop @0\ntake r1 @0\nget r1 @0\ndone r1", 50, 50},
 		{"get r1 @0\nput @0 r1\nget r1 @0\ndone r1", 50, 1},
 	} {
-		a := answer(t, program(t, c.text), over, nil, 50)
-		b := answer(t, program(t, c.text), over, g, 50)
+		a := answer(t, fixture.Program(t, c.text), over, nil, 50)
+		b := answer(t, fixture.Program(t, c.text), over, g, 50)
 		if a.Outcome != api.EndCommit || b.Outcome != api.EndCommit || a.Result != c.plain || b.Result != c.instead {
 			t.Errorf("%q: %+v without and %+v with given reads, want %d and %d", c.text, a, b, c.plain, c.instead)
 		}

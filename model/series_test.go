@@ -5,6 +5,7 @@ import (
 	"testing"
 
 	"braid/api"
+	"braid/fixture"
 	"braid/lang"
 	"braid/model"
 )
@@ -48,7 +49,7 @@ func TestEmptySeries(t *testing.T) {
 // The first program that is refused tells the error, wherever it stands, and no other program has been run.
 func TestSeriesRefused(t *testing.T) {
 	many := slicesOf(lang.MaxCode+1, lang.Instr{Code: lang.Quit})
-	good := program(t, inc)
+	good := fixture.Program(t, inc)
 	for _, over := range []int{0, 1, 16, 17} {
 		for _, fuel := range []int{-1, 0, 100, 10000, 10001} {
 			seriesRefuses(t, progs{refusedCode}, make(objects, over), fuel, api.ErrCode)
@@ -74,7 +75,7 @@ func TestSeriesRefused(t *testing.T) {
 
 // One that does not commit in the middle leaves the map as it was, for the next one too.
 func TestSeriesWithoutCommitInTheMiddle(t *testing.T) {
-	p := program(t, inc)
+	p := fixture.Program(t, inc)
 	for _, c := range []struct {
 		text string
 		want api.Alone
@@ -83,27 +84,27 @@ func TestSeriesWithoutCommitInTheMiddle(t *testing.T) {
 		{"put @0 99\nput @2 99", alone(api.EndBad, 0, objects{6, 7}, 2)},
 		{"put @0 99\nx: goto x", alone(api.EndNone, 0, objects{6, 7}, 50)},
 	} {
-		series(t, progs{p, program(t, c.text), p}, objects{5, 7}, 50,
+		series(t, progs{p, fixture.Program(t, c.text), p}, objects{5, 7}, 50,
 			alone(api.EndCommit, 6, objects{6, 7}, 4), c.want, alone(api.EndCommit, 7, objects{7, 7}, 4))
 	}
-	swap := program(t, "get r1 @0\nget r2 @1\nput @0 r2\nput @1 r1\ndone r2")
+	swap := fixture.Program(t, "get r1 @0\nget r2 @1\nput @0 r2\nput @1 r1\ndone r2")
 	series(t, progs{swap, p, swap}, objects{5, 7}, 50,
 		alone(api.EndCommit, 7, objects{7, 5}, 5), alone(api.EndCommit, 8, objects{8, 5}, 4), alone(api.EndCommit, 5, objects{5, 8}, 5))
 }
 
 // Each program has the whole fuel, and registers and reads of its own.
 func TestSeriesFuelIsEachOnes(t *testing.T) {
-	p := program(t, inc)
+	p := fixture.Program(t, inc)
 	series(t, progs{p, p}, objects{5}, 4, alone(api.EndCommit, 6, objects{6}, 4), alone(api.EndCommit, 7, objects{7}, 4))
 	series(t, progs{p, nil, p}, objects{5}, 3, alone(api.EndNone, 0, objects{5}, 3), alone(api.EndCommit, 0, objects{5}, 1), alone(api.EndNone, 0, objects{5}, 3))
 	series(t, progs{p, p}, objects{5}, 0, alone(api.EndNone, 0, objects{5}, 0), alone(api.EndNone, 0, objects{5}, 0))
-	tell := program(t, "done r1")
+	tell := fixture.Program(t, "done r1")
 	series(t, progs{p, tell}, objects{5}, 9, alone(api.EndCommit, 6, objects{6}, 4), alone(api.EndCommit, 0, objects{6}, 1))
 }
 
 // As many programs as one likes.
 func TestLongSeries(t *testing.T) {
-	p := program(t, inc)
+	p := fixture.Program(t, inc)
 	var list progs
 	var want []api.Alone
 	for k := range int64(5000) {
@@ -127,7 +128,7 @@ func TestAnswersShareNothing(t *testing.T) {
 	over := room[:2]
 	over[0], over[1] = 5, 7
 	for _, code := range []string{inc, "quit", "get r1 @9", "x: goto x", "put @1 4"} {
-		p := program(t, code)
+		p := fixture.Program(t, code)
 		a := answer(t, p, over, nil, 50)
 		b := answer(t, p, over, nil, 50)
 		keep := alone(b.Outcome, b.Result, slices.Clone(b.Objects), b.Count)
@@ -141,7 +142,7 @@ func TestAnswersShareNothing(t *testing.T) {
 		}
 		over[0], over[1] = 5, 7
 	}
-	p, q := program(t, inc), program(t, "quit")
+	p, q := fixture.Program(t, inc), fixture.Program(t, "quit")
 	list := progs{p, q, p, q}
 	for k := range list {
 		l, _ := model.Series(list, over, 50)

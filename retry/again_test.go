@@ -5,6 +5,7 @@ import (
 	"testing"
 
 	"braid/api"
+	"braid/fixture"
 	"braid/retry"
 )
 
@@ -84,7 +85,7 @@ func TestKilled(t *testing.T) {
 
 // Many attempts: each has the next number, and the stamp and the priority cell of the first; the clock ticks once.
 func TestManyTries(t *testing.T) {
-	f := layWith(t, api.Greedy, 5, 41, numbers(7), nil)
+	f := layWith(t, api.Greedy, 5, 41, fixture.Numbers(7), nil)
 	x := f.begun(1, 2)
 	own := api.Owner{Thread: 1, Stamp: 41, Priority: 4}
 	for try := 1; try <= 300; try++ {
@@ -105,7 +106,7 @@ func TestManyTries(t *testing.T) {
 // first, and whoever begins again between.
 func TestStamps(t *testing.T) {
 	for _, first := range []int64{0, 1, 77, -1, -2, -3, math.MaxInt64 - 2, math.MaxInt64, math.MinInt64} {
-		f := layWith(t, api.Polite, 5, first, numbers(7, 8), nil)
+		f := layWith(t, api.Polite, 5, first, fixture.Numbers(7, 8), nil)
 		var made []*retry.Transaction
 		for i := range 5 {
 			made = append(made, f.fresh(i, i))
@@ -232,7 +233,7 @@ func TestRank(t *testing.T) {
 						rank++
 					}
 					if r.Kind == api.RowBoost && (!keeps || !r.Told || r.Cell != 5 || r.Wrote != rank) {
-						t.Fatalf("kind %d: %q", kind, text(r))
+						t.Fatalf("kind %d: %q", kind, fixture.Row(r))
 					}
 					f.ranks(x, 5, rank)
 				}
@@ -247,12 +248,12 @@ func TestRank(t *testing.T) {
 		}
 		f.ranks(y, 8, 0)
 		if r := f.run(x, x.Read(0)); keeps && (rank != api.MaxRank || r.Kind != api.RowMine || !r.Told) {
-			t.Errorf("kind %d: rank %d, %q", kind, rank, text(r))
+			t.Errorf("kind %d: rank %d, %q", kind, rank, fixture.Row(r))
 		}
 		f.run(x, x.Finish())
 		f.ranks(x, 5, rank)
 		if r := f.run(y, y.Read(0)); keeps != (r.Kind == api.RowBoost) || y.Rank() != map[bool]int64{true: 1}[keeps] {
-			t.Errorf("kind %d: %q", kind, text(r))
+			t.Errorf("kind %d: %q", kind, fixture.Row(r))
 		}
 	}
 }

@@ -6,12 +6,9 @@ import (
 	"testing"
 
 	"braid/api"
-	"braid/cell"
-	"braid/cm"
-	"braid/locator"
+	"braid/fixture"
 	"braid/retry"
 	"braid/txn"
-	"braid/word"
 )
 
 // floor is a scene whose cell 0 is the clock, and how many steps have begun.
@@ -24,35 +21,15 @@ type floor struct {
 	steps int
 }
 
-func numbers(nums ...int64) []api.Value {
-	var values []api.Value
-	for _, n := range nums {
-		values = append(values, api.Value{Num: n})
-	}
-	return values
-}
-
 // lay makes a floor over the objects 7 and 8, with a clock at 0.
 func lay(t *testing.T, kind, patience int) *floor {
 	t.Helper()
-	return layWith(t, kind, patience, 0, numbers(7, 8), nil)
+	return layWith(t, kind, patience, 0, fixture.Numbers(7, 8), nil)
 }
 
 func layWith(t *testing.T, kind, patience int, clock int64, values []api.Value, draws []int64) *floor {
 	t.Helper()
-	return &floor{T: t, s: sceneOf(t, kind, patience, clock, values, draws)}
-}
-
-func sceneOf(t *testing.T, kind, patience int, clock int64, values []api.Value, draws []int64) txn.Scene {
-	t.Helper()
-	m := cell.New()
-	_, d := m.Make(clock)
-	w, e := locator.New(m, values)
-	c, f := cm.New(kind, patience)
-	if d != api.OK || e != api.OK || f != api.OK {
-		t.Fatalf("New = %d, %d, %d", d, e, f)
-	}
-	return txn.Scene{Memory: m, World: w, Manager: c, Draws: word.NewDraws(draws)}
+	return &floor{T: t, s: fixture.Scene(t, kind, patience, clock, values, draws)}
 }
 
 func (f *floor) ok(e api.Errno) {
@@ -127,7 +104,7 @@ func (f *floor) fails(x *retry.Transaction) {
 	f.Helper()
 	f.killed(x)
 	if r := f.run(x, x.Finish()); r.End != api.EndKilled {
-		f.Fatalf("%q", text(r))
+		f.Fatalf("%q", fixture.Row(r))
 	}
 }
 
@@ -135,7 +112,7 @@ func (f *floor) fails(x *retry.Transaction) {
 func (f *floor) again(x *retry.Transaction) {
 	f.Helper()
 	if r, e := x.Step(); e != api.OK || r.Kind != api.RowAgain {
-		f.Fatalf("%q, %d", text(r), e)
+		f.Fatalf("%q, %d", fixture.Row(r), e)
 	}
 }
 
@@ -203,43 +180,6 @@ func (f *floor) unmoved(x *retry.Transaction, call func()) {
 	}
 }
 
-var (
-	kinds = [api.RowKinds]string{
-		"stutter", "begin", "again", "local", "release", "point", "status", "mine", "look", "up", "wait", "down",
-		"kill", "acquire", "boost", "commit", "quit", "return",
-	}
-	phases = [...]string{"none", "read", "write", "final", "quit"}
-	ends   = [...]string{"none", "commit", "user", "bad", "stale", "killed"}
-)
-
-// text tells a row: its phase, its kind, its object, entry and enemy; its access; the verdict; what it tells; its end.
-// What a row does not use is left out.
-func text(r api.Row) string {
-	b := fmt.Sprintf("%s %s %d;%d;%d", phases[r.Phase], kinds[r.Kind], r.Object, r.Entry, r.Enemy)
-	if r.Cell != -1 || r.Seen != 0 || r.Wrote != 0 || r.Done {
-		b += fmt.Sprintf(" @%d %d>%d", r.Cell, r.Seen, r.Wrote)
-		if !r.Done {
-			b += " lost"
-		}
-	}
-	if r.Abort {
-		b += " abort"
-	}
-	if r.Timeout {
-		b += " timeout"
-	}
-	if r.Wait != 0 {
-		b += fmt.Sprintf(" wait %d", r.Wait)
-	}
-	if r.Told {
-		b += fmt.Sprintf(" tells %d", r.Value.Num)
-	}
-	if r.End != api.EndNone {
-		b += " end " + ends[r.End]
-	}
-	return b
-}
-
 // whose is what all rows of one attempt have in common.
 type whose struct{ thread, job, try, attempt int }
 
@@ -264,8 +204,8 @@ func (f *floor) does(x *retry.Transaction, who whose, lines ...string) {
 			rows++
 		}
 		r, e := x.Step()
-		if e != api.OK || text(r) != line {
-			f.Fatalf("line %d: %q, %d, want %q", i, text(r), e, line)
+		if e != api.OK || fixture.Row(r) != line {
+			f.Fatalf("line %d: %q, %d, want %q", i, fixture.Row(r), e, line)
 		}
 		if whoseOf(r) != who || !idle(r) {
 			f.Fatalf("line %d: %+v, want %+v", i, r, who)
@@ -314,7 +254,7 @@ func (f *floor) owner(x *retry.Transaction, want api.Owner, status, flag int) {
 
 func (f *floor) committed(nums ...int64) {
 	f.Helper()
-	if got, want := fmt.Sprint(f.s.World.Committed()), fmt.Sprint(numbers(nums...)); got != want {
+	if got, want := fmt.Sprint(f.s.World.Committed()), fmt.Sprint(fixture.Numbers(nums...)); got != want {
 		f.Fatalf("committed %v, want %v", got, want)
 	}
 }

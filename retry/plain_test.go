@@ -9,18 +9,6 @@ import (
 	"braid/txn"
 )
 
-// dice gives the same numbers at every run.
-type dice uint64
-
-func (d *dice) roll() uint64 {
-	*d ^= *d << 13
-	*d ^= *d >> 7
-	*d ^= *d << 17
-	return uint64(*d)
-}
-
-func (d *dice) below(n int) int { return int(d.roll() % uint64(n)) }
-
 // plain is a transaction as the chapter tells it, which keeps all its attempts, and what happened to it one behind the
 // other; all that it tells it works out of that.
 type plain struct {

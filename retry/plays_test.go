@@ -6,6 +6,7 @@ import (
 	"testing"
 
 	"braid/api"
+	"braid/fixture"
 	"braid/retry"
 	"braid/txn"
 )
@@ -13,7 +14,7 @@ import (
 // stage is two scenes of one kind: the one for transactions of the program, the other one for plain ones.
 type stage struct {
 	*testing.T
-	dice   *dice
+	dice   *fixture.Dice
 	s, q   txn.Scene
 	step   int
 	rows   int // of the log, as far as they were counted
@@ -40,23 +41,23 @@ type pair struct {
 	over  sight // what it told as it was over
 }
 
-func twin(t *testing.T, d *dice, kind int) *stage {
+func twin(t *testing.T, d *fixture.Dice, kind int) *stage {
 	t.Helper()
-	values := make([]api.Value, 1+d.below(4))
+	values := make([]api.Value, 1+d.Below(4))
 	for i := range values {
 		values[i] = api.Value{Num: int64(100 * i), Next: i - 1, Dead: i%2 == 1}
 	}
-	draws := make([]int64, d.below(60))
+	draws := make([]int64, d.Below(60))
 	for i := range draws {
-		draws[i] = int64(d.roll())
+		draws[i] = int64(d.Roll())
 	}
 	firsts := []int64{0, -1, 5, math.MaxInt64 - 3}
-	first, patience := firsts[d.below(len(firsts))], []int{1, 2, 5, 9, 60}[d.below(5)]
+	first, patience := firsts[d.Below(len(firsts))], []int{1, 2, 5, 9, 60}[d.Below(5)]
 	g := &stage{T: t, dice: d, clocks: []clock{{0, first, 0}}, seen: map[[2]int]int{}}
-	g.s = sceneOf(t, kind, patience, first, values, draws)
-	g.q = sceneOf(t, kind, patience, first, values, draws)
-	for range d.below(3) {
-		first = firsts[d.below(len(firsts))]
+	g.s = fixture.Scene(t, kind, patience, first, values, draws)
+	g.q = fixture.Scene(t, kind, patience, first, values, draws)
+	for range d.Below(3) {
+		first = firsts[d.Below(len(firsts))]
 		c, _ := g.s.Memory.Make(first)
 		g.q.Memory.Make(first)
 		g.clocks = append(g.clocks, clock{c, first, 0})
@@ -67,7 +68,7 @@ func twin(t *testing.T, d *dice, kind int) *stage {
 // enters puts a new pair on the stage.
 func (g *stage) enters(thread int) *pair {
 	g.Helper()
-	k, job := g.dice.below(len(g.clocks)), g.dice.below(8)
+	k, job := g.dice.Below(len(g.clocks)), g.dice.Below(8)
 	x, e := retry.New(g.s, g.clocks[k].cell, thread, job)
 	if e != api.OK {
 		g.Fatalf("New = %d", e)
@@ -139,7 +140,7 @@ func (g *stage) steps(c *pair, open bool) {
 	} else {
 		g.row(c, r, kind, end)
 		if took > 1 || (took == 1) != (r.Cell != -1) {
-			g.Fatalf("%q took %d accesses", text(r), took)
+			g.Fatalf("%q took %d accesses", fixture.Row(r), took)
 		}
 	}
 	g.same(c)
@@ -163,22 +164,22 @@ func (g *stage) row(c *pair, r api.Row, kind, end int) {
 	case api.RowBegin:
 		k := &g.clocks[c.clock]
 		if kind != api.RowStutter || c.x.Tries() != 1 || r.Seen != k.first+k.begun || c.x.Stamp() != r.Seen {
-			g.Fatalf("%q behind %s: stamp %d of %+v", text(r), kinds[kind], c.x.Stamp(), *k)
+			g.Fatalf("%q behind %s: stamp %d of %+v", fixture.Row(r), fixture.Kind(kind), c.x.Stamp(), *k)
 		}
 		k.begun++
 	case api.RowAgain:
 		if end != api.EndStale && end != api.EndKilled {
-			g.Fatalf("%q behind the end %d", text(r), end)
+			g.Fatalf("%q behind the end %d", fixture.Row(r), end)
 		}
 		was, _ := g.s.World.Owner(c.p.attempts[0].Number())
 		if now, _ := g.s.World.Owner(r.Attempt); now != was {
-			g.Fatalf("%q: the owner goes from %+v to %+v", text(r), was, now)
+			g.Fatalf("%q: the owner goes from %+v to %+v", fixture.Row(r), was, now)
 		}
 	default:
 		return
 	}
 	if r.Attempt <= g.newest || c.x.Reads() != 0 || c.x.State() != api.StateOpen {
-		g.Fatalf("%q: attempt %d behind %d, %d reads", text(r), r.Attempt, g.newest, c.x.Reads())
+		g.Fatalf("%q: attempt %d behind %d, %d reads", fixture.Row(r), r.Attempt, g.newest, c.x.Reads())
 	}
 	g.newest = r.Attempt
 }
@@ -188,16 +189,16 @@ var wrong = []int{math.MinInt, -1, 40, math.MaxInt}
 // asks asks the two of a pair for the same.
 func (g *stage) asks(c *pair) {
 	g.Helper()
-	x := g.dice.below(g.s.World.Objects())
-	if g.dice.below(12) == 0 {
-		x = wrong[g.dice.below(len(wrong))]
+	x := g.dice.Below(g.s.World.Objects())
+	if g.dice.Below(12) == 0 {
+		x = wrong[g.dice.Below(len(wrong))]
 	}
 	var n, m int
 	var got, want api.Errno
 	plainly := func(begins bool, do func(a *txn.Attempt) api.Errno) {
 		m, want = c.p.ask(begins, func(a *txn.Attempt) (int, api.Errno) { return 0, do(a) })
 	}
-	switch k := g.dice.below(40); {
+	switch k := g.dice.Below(40); {
 	case k < 14:
 		got = c.x.Read(x)
 		plainly(true, func(a *txn.Attempt) api.Errno { return a.Read(x) })
@@ -205,7 +206,7 @@ func (g *stage) asks(c *pair) {
 		got = c.x.Write(x)
 		plainly(true, func(a *txn.Attempt) api.Errno { return a.Write(x) })
 	case k < 31:
-		v := api.Value{Num: int64(g.dice.below(1000)), Next: g.dice.below(5) - 1, Dead: g.dice.below(2) == 0}
+		v := api.Value{Num: int64(g.dice.Below(1000)), Next: g.dice.Below(5) - 1, Dead: g.dice.Below(2) == 0}
 		got = c.x.Put(x, v)
 		plainly(false, func(a *txn.Attempt) api.Errno { return a.Put(x, v) })
 	case k < 34:
@@ -215,7 +216,7 @@ func (g *stage) asks(c *pair) {
 		got = c.x.Finish()
 		plainly(true, (*txn.Attempt).Finish)
 	default:
-		why := g.dice.below(8) - 1
+		why := g.dice.Below(8) - 1
 		got = c.x.Quit(why)
 		plainly(true, func(a *txn.Attempt) api.Errno { return a.Quit(why) })
 	}
@@ -236,9 +237,9 @@ func (g *stage) kills(c *pair) {
 // goes is one move of a play.
 func (g *stage) goes() {
 	g.Helper()
-	i := g.dice.below(len(g.pairs))
+	i := g.dice.Below(len(g.pairs))
 	c := g.pairs[i]
-	switch k := g.dice.below(100); {
+	switch k := g.dice.Below(100); {
 	case k < 2:
 		g.kills(c)
 	case k < 6:
@@ -250,7 +251,7 @@ func (g *stage) goes() {
 		g.gone = append(g.gone, c)
 		g.pairs[i] = g.enters(i)
 	default:
-		for range 1 + g.dice.below(6) { // some of one transaction's own, so that operations come through
+		for range 1 + g.dice.Below(6) { // some of one transaction's own, so that operations come through
 			g.steps(c, true)
 		}
 	}
@@ -283,11 +284,11 @@ func (g *stage) ends() {
 
 func TestSideBySide(t *testing.T) {
 	seen := map[[2]int]int{}
-	d := dice(88172645463325252)
+	d := fixture.NewDice()
 	tries := 0
 	for play := range 120 {
 		g := twin(t, &d, play%api.Managers)
-		for thread := range 2 + d.below(4) {
+		for thread := range 2 + d.Below(4) {
 			g.pairs = append(g.pairs, g.enters(thread))
 		}
 		for range 500 {
@@ -303,13 +304,13 @@ func TestSideBySide(t *testing.T) {
 	}
 	for k := api.RowBegin; k < api.RowReturn; k++ {
 		if n := seen[[2]int{k, api.EndNone}]; n < 40 && k != api.RowRelease && k != api.RowCommit && k != api.RowQuit {
-			t.Errorf("%s was seen %d times", kinds[k], n)
+			t.Errorf("%s was seen %d times", fixture.Kind(k), n)
 		}
 	}
 	for _, k := range [][2]int{{api.RowCommit, api.EndCommit}, {api.RowCommit, api.EndKilled}, {api.RowQuit, api.EndStale},
 		{api.RowQuit, api.EndUser}, {api.RowQuit, api.EndBad}, {api.RowQuit, api.EndKilled}, {api.RowMine, api.EndKilled}} {
 		if seen[k] < 20 {
-			t.Errorf("%s with the end %s was seen %d times", kinds[k[0]], ends[k[1]], seen[k])
+			t.Errorf("%s with the end %s was seen %d times", fixture.Kind(k[0]), fixture.End(k[1]), seen[k])
 		}
 	}
 	if tries < 4 {

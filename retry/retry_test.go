@@ -5,6 +5,7 @@ import (
 	"testing"
 
 	"braid/api"
+	"braid/fixture"
 	"braid/retry"
 	"braid/txn"
 )
@@ -270,7 +271,7 @@ func TestAgainTakesNoAccess(t *testing.T) {
 	f.open()
 	rows := len(f.s.Memory.Log())
 	r, e := x.Step()
-	if e != api.OK || text(r) != "none again -1;-1;-1" || whoseOf(r) != (whose{0, 3, 3, 3}) || !idle(r) {
+	if e != api.OK || fixture.Row(r) != "none again -1;-1;-1" || whoseOf(r) != (whose{0, 3, 3, 3}) || !idle(r) {
 		t.Fatalf("%+v, %d", r, e)
 	}
 	if f.s.Memory.Took() != (api.Access{}) || len(f.s.Memory.Log()) != rows {
@@ -278,8 +279,8 @@ func TestAgainTakesNoAccess(t *testing.T) {
 	}
 	// the access is still free
 	f.ok(x.Quit(api.EndUser))
-	if r, e := x.Step(); e != api.OK || text(r) != "quit quit -1;-1;-1 @10 1>3 end user" {
-		t.Fatalf("%q, %d", text(r), e)
+	if r, e := x.Step(); e != api.OK || fixture.Row(r) != "quit quit -1;-1;-1 @10 1>3 end user" {
+		t.Fatalf("%q, %d", fixture.Row(r), e)
 	}
 }
 

@@ -5,6 +5,7 @@ import (
 	"testing"
 
 	"braid/api"
+	"braid/fixture"
 	"braid/retry"
 )
 
@@ -32,7 +33,7 @@ func (f *floor) overtaken(object int, num int64) {
 	f.run(y, y.Write(object))
 	f.ok(y.Put(object, api.Value{Num: num}))
 	if r := f.run(y, y.Finish()); r.End != api.EndCommit {
-		f.Fatalf("%q", text(r))
+		f.Fatalf("%q", fixture.Row(r))
 	}
 }
 
@@ -54,7 +55,7 @@ var states = []state{
 		x := f.full()
 		f.overtaken(0, 70)
 		if r := f.run(x, x.Finish()); r.End != api.EndStale {
-			f.Fatalf("%q", text(r))
+			f.Fatalf("%q", fixture.Row(r))
 		}
 		return x
 	}},
@@ -214,7 +215,7 @@ func TestStepInEachState(t *testing.T) {
 			t.Errorf("%s: Step = %+v, %d", s.name, r, e)
 		}
 		if begins := r.Kind == api.RowBegin || r.Kind == api.RowAgain; begins != (s.is == api.StateFresh) || begins != (x.Tries() == tries+1) {
-			t.Errorf("%s: %q, tries from %d to %d", s.name, text(r), tries, x.Tries())
+			t.Errorf("%s: %q, tries from %d to %d", s.name, fixture.Row(r), tries, x.Tries())
 		}
 	}
 }

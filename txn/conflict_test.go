@@ -6,6 +6,7 @@ import (
 	"testing"
 
 	"braid/api"
+	"braid/fixture"
 	"braid/txn"
 )
 
@@ -239,7 +240,7 @@ func TestGreatestRank(t *testing.T) {
 					f.open()
 					r, e := a.Step()
 					if e != api.OK || r.Told != (i == steps-1) || r.Told && r.Kind != last {
-						t.Fatalf("rank %d, object %d, step %d: %q, %d", rank, o, i, text(r), e)
+						t.Fatalf("rank %d, object %d, step %d: %q, %d", rank, o, i, fixture.Row(r), e)
 					}
 				}
 				c, _ := f.s.World.StatusCell(a.Number())
@@ -465,7 +466,7 @@ func TestConflictBehindKill(t *testing.T) {
 
 // In a validation an Active owner is not in the way: its old version is the current one; nor is an Aborted one.
 func TestCheckIgnoresEnemies(t *testing.T) {
-	f := layOver(t, api.Greedy, 5, numbers(7, 8, 9), nil)
+	f := layOver(t, api.Greedy, 5, fixture.Numbers(7, 8, 9), nil)
 	a, b := f.attempt(0), f.attempt(1)
 	f.ok(a.Read(0))
 	f.takesSteps(a, 3)
@@ -486,7 +487,7 @@ func TestCheckIgnoresEnemies(t *testing.T) {
 // and a Finish; it comes through each kind of step but RowQuit. It hands on each row of attempt 1.
 func story(t *testing.T, kind, killAt int) (rows []api.Row) {
 	t.Helper()
-	f := layOver(t, kind, 2, numbers(7, 8, 9), nil)
+	f := layOver(t, kind, 2, fixture.Numbers(7, 8, 9), nil)
 	a := f.attempt(5)
 	n := 0
 	act := func(begin api.Errno) bool {
@@ -526,7 +527,7 @@ func TestKilledAheadOfEachStep(t *testing.T) {
 	for kind := range api.Managers {
 		calm := story(t, kind, -1)
 		if last := calm[len(calm)-1]; last.End != api.EndCommit {
-			t.Fatalf("kind %d: %q", kind, text(last))
+			t.Fatalf("kind %d: %q", kind, fixture.Row(last))
 		}
 		for at := range calm {
 			want := append([]api.Row(nil), calm[:at]...)
@@ -548,7 +549,7 @@ func TestKilledAheadOfEachStep(t *testing.T) {
 			}
 			for i := range got {
 				if got[i] != want[i] {
-					t.Fatalf("kind %d, killed ahead of %d: row %d %q, want %q", kind, at, i, text(got[i]), text(want[i]))
+					t.Fatalf("kind %d, killed ahead of %d: row %d %q, want %q", kind, at, i, fixture.Row(got[i]), fixture.Row(want[i]))
 				}
 			}
 		}

@@ -8,6 +8,7 @@ import (
 	"braid/api"
 	"braid/cell"
 	"braid/cm"
+	"braid/fixture"
 	"braid/locator"
 	"braid/txn"
 	"braid/word"
@@ -23,18 +24,10 @@ type floor struct {
 	steps int
 }
 
-func numbers(nums ...int64) []api.Value {
-	var values []api.Value
-	for _, n := range nums {
-		values = append(values, api.Value{Num: n})
-	}
-	return values
-}
-
 // lay makes a floor over the objects 7 and 8.
 func lay(t *testing.T, kind, patience int, draws ...int64) *floor {
 	t.Helper()
-	return layOver(t, kind, patience, numbers(7, 8), draws)
+	return layOver(t, kind, patience, fixture.Numbers(7, 8), draws)
 }
 
 func layOver(t *testing.T, kind, patience int, values []api.Value, draws []int64) *floor {
@@ -121,43 +114,6 @@ func (f *floor) locators() int {
 	}
 }
 
-var (
-	kinds = [api.RowKinds]string{
-		"stutter", "begin", "again", "local", "release", "point", "status", "mine", "look", "up", "wait", "down",
-		"kill", "acquire", "boost", "commit", "quit", "return",
-	}
-	phases = [...]string{"none", "read", "write", "final", "quit"}
-	ends   = [...]string{"none", "commit", "user", "bad", "stale", "killed"}
-)
-
-// text tells a row: its phase, its kind, its object, entry and enemy; its access; the verdict; what it tells; its end.
-// What a row does not use is left out, so that two rows with one text, thread and attempt are the same.
-func text(r api.Row) string {
-	b := fmt.Sprintf("%s %s %d;%d;%d", phases[r.Phase], kinds[r.Kind], r.Object, r.Entry, r.Enemy)
-	if r.Cell != -1 || r.Seen != 0 || r.Wrote != 0 || r.Done {
-		b += fmt.Sprintf(" @%d %d>%d", r.Cell, r.Seen, r.Wrote)
-		if !r.Done {
-			b += " lost"
-		}
-	}
-	if r.Abort {
-		b += " abort"
-	}
-	if r.Timeout {
-		b += " timeout"
-	}
-	if r.Wait != 0 {
-		b += fmt.Sprintf(" wait %d", r.Wait)
-	}
-	if r.Told {
-		b += fmt.Sprintf(" tells %d", r.Value.Num)
-	}
-	if r.End != api.EndNone {
-		b += " end " + ends[r.End]
-	}
-	return b
-}
-
 // idle looks that a row has nothing in the fields that the layers above fill, or that its text leaves out.
 func idle(r api.Row) bool {
 	return r.Step == 0 && r.Try == 0 && r.Job == -1 && !r.Puts && r.Put == api.Value{} && (r.Told || r.Value == api.Value{})
@@ -173,8 +129,8 @@ func (f *floor) does(a *txn.Attempt, thread int, lines ...string) {
 		}
 		before := f.sight(a)
 		r, e := a.Step()
-		if e != api.OK || text(r) != line {
-			f.Fatalf("line %d: %q, %d, want %q", i, text(r), e, line)
+		if e != api.OK || fixture.Row(r) != line {
+			f.Fatalf("line %d: %q, %d, want %q", i, fixture.Row(r), e, line)
 		}
 		if !idle(r) || r.Thread != thread || r.Attempt != a.Number() {
 			f.Fatalf("line %d: %+v", i, r)
@@ -201,7 +157,7 @@ func (f *floor) grain(before, after sight, r api.Row) {
 		taken = 1
 	}
 	if after.rows != before.rows+rows || after.taken != before.taken+taken || after.cells != before.cells {
-		f.Fatalf("%q: from %+v to %+v", text(r), before, after)
+		f.Fatalf("%q: from %+v to %+v", fixture.Row(r), before, after)
 	}
 }
 
@@ -248,7 +204,7 @@ func (f *floor) state(a *txn.Attempt, state, reads int, owns ...int) {
 
 func (f *floor) committed(nums ...int64) {
 	f.Helper()
-	if got, want := fmt.Sprint(f.s.World.Committed()), fmt.Sprint(numbers(nums...)); got != want {
+	if got, want := fmt.Sprint(f.s.World.Committed()), fmt.Sprint(fixture.Numbers(nums...)); got != want {
 		f.Fatalf("committed %v, want %v", got, want)
 	}
 }

@@ -7,18 +7,6 @@ import (
 	"braid/txn"
 )
 
-// dice gives the same numbers at every run.
-type dice uint64
-
-func (d *dice) roll() uint64 {
-	*d ^= *d << 13
-	*d ^= *d >> 7
-	*d ^= *d << 17
-	return uint64(*d)
-}
-
-func (d *dice) below(n int) int { return int(d.roll() % uint64(n)) }
-
 // reading is an entry as the plain attempt keeps it.
 type reading struct{ object, version, ordinal int }
 

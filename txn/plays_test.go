@@ -8,6 +8,7 @@ import (
 	"braid/api"
 	"braid/cell"
 	"braid/cm"
+	"braid/fixture"
 	"braid/locator"
 	"braid/txn"
 	"braid/word"
@@ -16,7 +17,7 @@ import (
 // stage is two scenes of one kind: the one for attempts of the program, the other one for plain ones.
 type stage struct {
 	*testing.T
-	dice  *dice
+	dice  *fixture.Dice
 	s, q  txn.Scene
 	step  int
 	rows  int // of the log, as far as they were looked at
@@ -31,15 +32,15 @@ type pair struct {
 	*record
 }
 
-func twin(t *testing.T, d *dice, kind, patience, objects int) *stage {
+func twin(t *testing.T, d *fixture.Dice, kind, patience, objects int) *stage {
 	t.Helper()
 	values := make([]api.Value, objects)
 	for i := range values {
 		values[i] = api.Value{Num: int64(100 * i), Next: i - 1, Dead: i%2 == 1}
 	}
-	draws := make([]int64, d.below(60))
+	draws := make([]int64, d.Below(60))
 	for i := range draws {
-		draws[i] = int64(d.roll())
+		draws[i] = int64(d.Roll())
 	}
 	scene := func() txn.Scene {
 		m := cell.New()
@@ -59,18 +60,18 @@ func twin(t *testing.T, d *dice, kind, patience, objects int) *stage {
 func (g *stage) enters(thread int) *pair {
 	g.Helper()
 	rank := int64(0)
-	if g.dice.below(3) == 0 {
-		rank = int64(api.MaxRank - 4 + g.dice.below(6))
+	if g.dice.Below(3) == 0 {
+		rank = int64(api.MaxRank - 4 + g.dice.Below(6))
 	}
 	c, e := g.s.Memory.Make(rank)
 	g.q.Memory.Make(rank)
 	if e != api.OK {
 		g.Fatalf("Make = %d", e)
 	}
-	if !g.s.Manager.Keeps() && g.dice.below(4) == 0 {
+	if !g.s.Manager.Keeps() && g.dice.Below(4) == 0 {
 		c = -1
 	}
-	own := api.Owner{Thread: thread, Stamp: int64(g.dice.below(6)), Priority: c}
+	own := api.Owner{Thread: thread, Stamp: int64(g.dice.Below(6)), Priority: c}
 	a, e := txn.New(g.s, own, rank)
 	if e != api.OK {
 		g.Fatalf("New = %d", e)
@@ -120,7 +121,7 @@ func (g *stage) steps(c *pair, open bool) {
 	r, e := c.a.Step()
 	want, wantE := c.p.Step()
 	if r != want || e != wantE {
-		g.Fatalf("step %d: %q %+v, %d, want %q, %d", g.step, text(r), r, e, text(want), wantE)
+		g.Fatalf("step %d: %q %+v, %d, want %q, %d", g.step, fixture.Row(r), r, e, fixture.Row(want), wantE)
 	}
 	g.access(r, g.fresh())
 	if e == api.OK {
@@ -143,27 +144,27 @@ func (g *stage) fresh() int {
 func (g *stage) access(r api.Row, rows int) {
 	g.Helper()
 	if rows > 1 || rows == 1 && r.Cell == -1 || rows == 0 && r.Cell != -1 && r != (api.Row{}) {
-		g.Fatalf("%q took %d accesses", text(r), rows)
+		g.Fatalf("%q took %d accesses", fixture.Row(r), rows)
 	}
 	if rows == 0 {
 		return
 	}
 	t := g.s.Memory.Took()
 	if t.Cell != r.Cell || t.Seen != r.Seen || t.Wrote != r.Wrote || t.Done != r.Done {
-		g.Fatalf("%q took %v", text(r), t)
+		g.Fatalf("%q took %v", fixture.Row(r), t)
 	}
 	switch r.Kind {
 	case api.RowAcquire, api.RowKill, api.RowUp, api.RowDown, api.RowCommit, api.RowQuit:
 		if t.Kind != api.AccSwap {
-			g.Fatalf("%q took %v", text(r), t)
+			g.Fatalf("%q took %v", fixture.Row(r), t)
 		}
 	case api.RowBoost:
 		if t.Kind != api.AccAdd {
-			g.Fatalf("%q took %v", text(r), t)
+			g.Fatalf("%q took %v", fixture.Row(r), t)
 		}
 	default:
 		if t.Kind != api.AccLoad {
-			g.Fatalf("%q took %v", text(r), t)
+			g.Fatalf("%q took %v", fixture.Row(r), t)
 		}
 	}
 }
@@ -173,19 +174,19 @@ var wrong = []int{math.MinInt, -1, 40, math.MaxInt}
 // asks asks the two of a pair for the same.
 func (g *stage) asks(c *pair) {
 	g.Helper()
-	x := g.dice.below(g.s.World.Objects())
-	if g.dice.below(12) == 0 {
-		x = wrong[g.dice.below(len(wrong))]
+	x := g.dice.Below(g.s.World.Objects())
+	if g.dice.Below(12) == 0 {
+		x = wrong[g.dice.Below(len(wrong))]
 	}
 	var got, want api.Errno
 	var n, m int
-	switch k := g.dice.below(40); {
+	switch k := g.dice.Below(40); {
 	case k < 14:
 		got, want = c.a.Read(x), c.p.Read(x)
 	case k < 24:
 		got, want = c.a.Write(x), c.p.Write(x)
 	case k < 31:
-		v := api.Value{Num: int64(g.dice.below(1000)), Next: g.dice.below(5) - 1, Dead: g.dice.below(2) == 0}
+		v := api.Value{Num: int64(g.dice.Below(1000)), Next: g.dice.Below(5) - 1, Dead: g.dice.Below(2) == 0}
 		got, want = c.a.Put(x, v), c.p.Put(x, v)
 	case k < 34:
 		n, got = c.a.Release(x)
@@ -196,7 +197,7 @@ func (g *stage) asks(c *pair) {
 	case k < 38:
 		got, want = c.a.Finish(), c.p.Finish()
 	default:
-		why := g.dice.below(8) - 1
+		why := g.dice.Below(8) - 1
 		got, want = c.a.Quit(why), c.p.Quit(why)
 	}
 	if got != want || n != m {
@@ -217,9 +218,9 @@ func (g *stage) kills(c *pair) {
 // goes is one move of a play.
 func (g *stage) goes() {
 	g.Helper()
-	i := g.dice.below(len(g.pairs))
+	i := g.dice.Below(len(g.pairs))
 	c := g.pairs[i]
-	switch k := g.dice.below(100); {
+	switch k := g.dice.Below(100); {
 	case k < 2:
 		g.kills(c)
 	case k < 6:
@@ -229,7 +230,7 @@ func (g *stage) goes() {
 	case c.a.State() == api.StateOver && k < 50:
 		g.pairs[i] = g.enters(i)
 	default:
-		for range 1 + g.dice.below(6) { // some of one attempt's own, so that operations come through
+		for range 1 + g.dice.Below(6) { // some of one attempt's own, so that operations come through
 			g.steps(c, true)
 		}
 	}
@@ -237,10 +238,10 @@ func (g *stage) goes() {
 
 func TestSideBySide(t *testing.T) {
 	kinds := map[int]int{} // how often each kind of row was seen, with each end
-	d := dice(88172645463325252)
+	d := fixture.NewDice()
 	for play := range 260 {
-		g := twin(t, &d, play%api.Managers, []int{1, 2, 5, 9, 60}[d.below(5)], 1+d.below(4))
-		for thread := range 2 + d.below(4) {
+		g := twin(t, &d, play%api.Managers, []int{1, 2, 5, 9, 60}[d.Below(5)], 1+d.Below(4))
+		for thread := range 2 + d.Below(4) {
 			g.pairs = append(g.pairs, g.enters(thread))
 		}
 		for range 900 {
@@ -256,7 +257,7 @@ func TestSideBySide(t *testing.T) {
 	}
 	for k := api.RowPoint; k < api.RowReturn; k++ {
 		if kinds[k*10] < 100 && k != api.RowCommit && k != api.RowQuit {
-			t.Errorf("%s was seen %d times", text(api.Row{Kind: k}), kinds[k*10])
+			t.Errorf("%s was seen %d times", fixture.Kind(k), kinds[k*10])
 		}
 	}
 	for _, k := range []int{api.RowCommit*10 + api.EndCommit, api.RowCommit*10 + api.EndKilled, api.RowQuit*10 + api.EndStale,

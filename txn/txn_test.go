@@ -8,6 +8,7 @@ import (
 	"braid/api"
 	"braid/cell"
 	"braid/cm"
+	"braid/fixture"
 	"braid/locator"
 	"braid/txn"
 )
@@ -200,7 +201,7 @@ func TestQuit(t *testing.T) {
 		f.ok(a.Put(0, api.Value{Num: 1}))
 		f.ok(a.Quit(why))
 		f.state(a, api.StateBusy, 0, 0)
-		f.does(a, 0, "quit quit -1;-1;-1 @5 1>3 end "+ends[why])
+		f.does(a, 0, "quit quit -1;-1;-1 @5 1>3 end "+fixture.End(why))
 		f.state(a, api.StateOver, 0, 0)
 		f.committed(7, 8)
 	}
@@ -245,8 +246,8 @@ func TestLocalTakesNoAccess(t *testing.T) {
 	f.does(a, 0, "read point 0;-1;-1 @2 0>0", "read status 0;-1;0 @0 2>2", "read mine 0;0;-1 @5 1>1 tells 7")
 	f.ok(a.Read(0))
 	f.open()
-	if r, e := a.Step(); e != api.OK || text(r) != "read local 0;0;-1 tells 7" {
-		t.Fatalf("%q, %d", text(r), e)
+	if r, e := a.Step(); e != api.OK || fixture.Row(r) != "read local 0;0;-1 tells 7" {
+		t.Fatalf("%q, %d", fixture.Row(r), e)
 	}
 	if f.s.Memory.Took() != (api.Access{}) {
 		t.Errorf("took %v", f.s.Memory.Took())
@@ -264,11 +265,11 @@ func TestSecondAccess(t *testing.T) {
 	a := f.attempt(0)
 	f.ok(a.Read(0))
 	f.open()
-	if r, e := a.Step(); e != api.OK || text(r) != "read point 0;-1;-1 @2 0>0" {
-		t.Fatalf("%q, %d", text(r), e)
+	if r, e := a.Step(); e != api.OK || fixture.Row(r) != "read point 0;-1;-1 @2 0>0" {
+		t.Fatalf("%q, %d", fixture.Row(r), e)
 	}
 	if r, e := a.Step(); e != api.ErrClosed || r != (api.Row{}) {
-		t.Fatalf("%q, %d", text(r), e)
+		t.Fatalf("%q, %d", fixture.Row(r), e)
 	}
 	f.does(a, 0, "read status 0;-1;0 @0 2>2", "read mine 0;0;-1 @5 1>1 tells 7")
 }
@@ -624,7 +625,7 @@ func TestNilAndZero(t *testing.T) {
 // What is told when the attempt is over, by each end; and that nothing can be asked for any more.
 func TestOver(t *testing.T) {
 	for end := api.EndCommit; end <= api.EndKilled; end++ {
-		f := layOver(t, api.Karma, 5, numbers(7, 8, 9), nil)
+		f := layOver(t, api.Karma, 5, fixture.Numbers(7, 8, 9), nil)
 		a := f.attempt(0)
 		f.ok(a.Read(0))
 		f.takesSteps(a, 4)
@@ -655,7 +656,7 @@ func TestOver(t *testing.T) {
 			last = r
 		}
 		if last.End != end {
-			t.Fatalf("%q, want end %s", text(last), ends[end])
+			t.Fatalf("%q, want end %s", fixture.Row(last), fixture.End(end))
 		}
 		before := f.sight(a)
 		f.over(a)
@@ -676,7 +677,7 @@ func TestOver(t *testing.T) {
 			want = 5
 		}
 		if got := f.s.World.Committed()[1].Num; got != want {
-			t.Errorf("end %s: committed %d, want %d", ends[end], got, want)
+			t.Errorf("end %s: committed %d, want %d", fixture.End(end), got, want)
 		}
 	}
 }
@@ -785,7 +786,7 @@ func TestOtherCells(t *testing.T) {
 	for range 40 {
 		m.Make(-1)
 	}
-	w, e := locator.New(m, numbers(7))
+	w, e := locator.New(m, fixture.Numbers(7))
 	c, _ := cm.New(api.Karma, 5)
 	f := &floor{T: t, s: txn.Scene{Memory: m, World: w, Manager: c, Draws: lay(t, api.Polite, 1).s.Draws}}
 	f.ok(e)
@@ -851,7 +852,7 @@ func TestSpoilt(t *testing.T) {
 		f.open()
 		a.Step()
 	}
-	if got := fmt.Sprint(f.s.World.Committed()); got != fmt.Sprint(numbers(7, 8)) {
+	if got := fmt.Sprint(f.s.World.Committed()); got != fmt.Sprint(fixture.Numbers(7, 8)) {
 		t.Errorf("committed %s", got)
 	}
 }

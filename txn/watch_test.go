@@ -5,6 +5,7 @@ import (
 	"testing"
 
 	"braid/api"
+	"braid/fixture"
 	"braid/txn"
 )
 
@@ -132,7 +133,7 @@ func (w *watch) orderly(a *record, r api.Row, was ahead) {
 	w.Helper()
 	l, _ := w.s.World.Locator(int(r.Wrote))
 	if l.Owner != a.number || l.Old != was.current || was.loc != int(r.Seen) || was.status == api.Active {
-		w.Fatalf("%q lays %v upon %v", text(r), l, was)
+		w.Fatalf("%q lays %v upon %v", fixture.Row(r), l, was)
 	}
 	a.writes = append(a.writes, took{r.Object, l.Old, l.New, len(w.moments) - 1})
 	a.leaves(r.Object)
@@ -149,7 +150,7 @@ func (w *watch) told(a *record, r api.Row) {
 			return
 		}
 	}
-	w.Fatalf("%q: no moment at which %v and %v were current", text(r), a.reads, a.writes)
+	w.Fatalf("%q: no moment at which %v and %v were current", fixture.Row(r), a.reads, a.writes)
 }
 
 func (a *record) fits(current []int) bool {
