@@ -15,20 +15,20 @@ import (
 func TestStale(t *testing.T) {
 	f := lay(t, api.Polite, 5)
 	j := f.job("get r1 @0\nadd r1 r1 1\nput @1 r1\ndone r1")
-	f.until(j, api.RowAcquire)
-	f.until(j, api.RowMine)
+	f.Until(j, api.RowAcquire)
+	f.Until(j, api.RowMine)
 	f.overtaken(0, 70)
-	f.does(j, first, "final point 0;0;-1 @3 3>3 | 3", "final status 0;0;2 @9 2>2 | 3",
+	f.Does(j, first, "final point 0;0;-1 @3 3>3 | 3", "final status 0;0;2 @9 2>2 | 3",
 		"final quit -1;-1;-1 @6 1>3 end stale | 3")
-	second := whose{2, 5, 2, 3}
-	f.does(j, second, "none again -1;-1;-1 | 0",
+	second := fixture.By(2, 5, 2, 3)
+	f.Does(j, second, "none again -1;-1;-1 | 0",
 		"read point 0;-1;-1 @3 3>3 | 0", "read status 0;-1;2 @9 2>2 | 0", "read mine 0;0;-1 @11 1>1 tells 70 | 1",
 		"none local -1;-1;-1 | 2", "write point 1;-1;-1 @4 2>2 | 2", "write status 1;-1;1 @6 3>3 | 2")
 	f.overtaken(0, 90)
-	f.does(j, second, "write acquire 1;-1;-1 @4 2>5 | 2", "write point 0;0;-1 @3 4>4 | 2",
+	f.Does(j, second, "write acquire 1;-1;-1 @4 2>5 | 2", "write point 0;0;-1 @3 4>4 | 2",
 		"write status 0;0;4 @14 2>2 | 2", "write quit -1;-1;-1 @11 1>3 end stale | 2")
-	f.does(j, whose{2, 5, 3, 5}, "none again -1;-1;-1 | 0")
-	f.run(j)
+	f.Does(j, fixture.By(2, 5, 3, 5), "none again -1;-1;-1 | 0")
+	f.Run(j)
 	f.answers(j, 3, api.EndCommit, 91, 3)
 	f.committed(90, 91)
 }
@@ -55,11 +55,11 @@ func TestKilled(t *testing.T) {
 	} {
 		f := lay(t, api.Polite, 5)
 		j := f.job(c.text)
-		f.step(j)
-		f.killed(1)
-		f.does(j, first, c.lines...)
-		f.does(j, whose{2, 5, 2, 2}, "none again -1;-1;-1 | 0")
-		f.run(j)
+		f.Step(j)
+		f.Killed(1)
+		f.Does(j, first, c.lines...)
+		f.Does(j, fixture.By(2, 5, 2, 2), "none again -1;-1;-1 | 0")
+		f.Run(j)
 		f.answers(j, c.place, c.outcome, c.result, 2)
 	}
 }
@@ -77,15 +77,15 @@ func TestRegistersAreEmptyAgain(t *testing.T) {
 	code := fixture.Program(t, text.String()+"done r3")
 	f := layOver(t, make([]int64, api.MaxMap)...)
 	j := f.jobOf(2, 5, code)
-	attempt := f.step(j).Attempt
+	attempt := f.Step(j).Attempt
 	for try := 1; try <= 40; try++ {
 		for range try * 2 {
-			f.step(j)
+			f.Step(j)
 		}
-		f.killed(attempt)
+		f.Killed(attempt)
 		for {
-			if r := f.step(j); r.Kind == api.RowAgain {
-				if whoseOf(r) != (whose{2, 5, try + 1, attempt + 1}) {
+			if r := f.Step(j); r.Kind == api.RowAgain {
+				if fixture.WhoseOf(r) != fixture.By(2, 5, try+1, attempt+1) {
 					t.Fatalf("%+v", r)
 				}
 				break
@@ -98,7 +98,7 @@ func TestRegistersAreEmptyAgain(t *testing.T) {
 	for r := range lang.MaxRegs {
 		want = append(want, int64(r+1))
 	}
-	f.run(j)
+	f.Run(j)
 	f.answers(j, len(code)-1, api.EndCommit, 4, 41)
 	f.committed(want...)
 }
@@ -108,19 +108,19 @@ func TestResultIsNotCarriedOver(t *testing.T) {
 	for rest, outcome := range map[string]int{"e:": api.EndCommit, "e: quit": api.EndUser, "e: take r2 @2": api.EndBad} {
 		f := lay(t, api.Polite, 5)
 		j := f.job("get r1 @0\nif r1 != 7 e\ndone 99\n" + rest)
-		f.until(j, api.RowMine)
-		f.until(j, api.RowLocal)
+		f.Until(j, api.RowMine)
+		f.Until(j, api.RowLocal)
 		f.overtaken(0, 8)
-		f.until(j, api.RowAgain)
-		f.run(j)
+		f.Until(j, api.RowAgain)
+		f.Run(j)
 		f.answers(j, 3, outcome, 0, 2)
 	}
 	f := lay(t, api.Polite, 5)
 	j := f.job("get r1 @0\nif r1 != 7 e\ndone 99\ne: done r1")
-	f.until(j, api.RowLocal)
-	f.killed(1)
+	f.Until(j, api.RowLocal)
+	f.Killed(1)
 	f.overtaken(0, 8)
-	f.run(j)
+	f.Run(j)
 	f.answers(j, 3, api.EndCommit, 8, 2)
 }
 
@@ -136,7 +136,7 @@ func TestAnswerWithoutCommit(t *testing.T) {
 	} {
 		f := lay(t, api.Polite, 5)
 		j := f.job(text)
-		f.run(j)
+		f.Run(j)
 		f.answers(j, 2, outcome, 0, 1)
 		f.committed(7, 8)
 	}
@@ -158,7 +158,7 @@ func TestManyThreads(t *testing.T) {
 				if j.Over() || step%(thread+3) == 0 {
 					continue
 				}
-				r := f.step(j)
+				r := f.Step(j)
 				if r.Kind == api.RowAgain {
 					agains[thread]++
 					f.tells(j, sight{})

@@ -13,13 +13,13 @@ import (
 )
 
 // The first attempt of a floor's first job.
-var first = whose{2, 5, 1, 1}
+var first = fixture.By(2, 5, 1, 1)
 
 func TestExample1(t *testing.T) {
 	f := lay(t, api.Polite, 100)
 	j := f.job("get r1 @0\nadd r1 r1 1\nput @0 r1\ndone r1")
 	f.tells(j, sight{})
-	f.does(j, first,
+	f.Does(j, first,
 		"none begin -1;-1;-1 @0 0>1 | 0",
 		"read point 0;-1;-1 @3 0>0 | 0", "read status 0;-1;0 @1 2>2 | 0", "read mine 0;0;-1 @6 1>1 tells 7 | 1",
 		"none local -1;-1;-1 | 2",
@@ -34,7 +34,7 @@ func TestExample1(t *testing.T) {
 func TestExample2(t *testing.T) {
 	f := lay(t, api.Polite, 100)
 	j := f.job("")
-	f.does(j, first, "none begin -1;-1;-1 @0 0>1 | 0", "final commit -1;-1;-1 @6 1>2 end commit | 0", "none return -1;-1;-1 | 0")
+	f.Does(j, first, "none begin -1;-1;-1 @0 0>1 | 0", "final commit -1;-1;-1 @6 1>2 end commit | 0", "none return -1;-1;-1 | 0")
 	f.answers(j, 0, api.EndCommit, 0, 1)
 	f.committed(7, 8)
 }
@@ -43,7 +43,7 @@ func TestExample3(t *testing.T) {
 	for _, text := range []string{"get r1 @2", "drop @-1", "put @5 r0", "take r1 @2"} {
 		f := lay(t, api.Polite, 100)
 		j := f.job(text)
-		f.does(j, first, "none begin -1;-1;-1 @0 0>1 | 0", "quit quit -1;-1;-1 @6 1>3 end bad | 0", "none return -1;-1;-1 | 0")
+		f.Does(j, first, "none begin -1;-1;-1 @0 0>1 | 0", "quit quit -1;-1;-1 @6 1>3 end bad | 0", "none return -1;-1;-1 | 0")
 		f.answers(j, 0, api.EndBad, 0, 1)
 		f.committed(7, 8)
 	}
@@ -52,7 +52,7 @@ func TestExample3(t *testing.T) {
 func TestExample4(t *testing.T) {
 	f := lay(t, api.Polite, 100)
 	j := f.job("put @0 9\nquit")
-	f.does(j, first,
+	f.Does(j, first,
 		"none begin -1;-1;-1 @0 0>1 | 0",
 		"write point 0;-1;-1 @3 0>0 | 0", "write status 0;-1;0 @1 2>2 | 0", "write acquire 0;-1;-1 @3 0>2 | 0",
 		"write mine 0;-1;-1 @6 1>1 tells 7 puts 9 | 1",
@@ -65,7 +65,7 @@ func TestExample4(t *testing.T) {
 func TestExample5(t *testing.T) {
 	f := lay(t, api.Polite, 100)
 	j := f.job("put @0 9\nget r1 @0\ndone r1")
-	f.does(j, first,
+	f.Does(j, first,
 		"none begin -1;-1;-1 @0 0>1 | 0",
 		"write point 0;-1;-1 @3 0>0 | 0", "write status 0;-1;0 @1 2>2 | 0", "write acquire 0;-1;-1 @3 0>2 | 0",
 		"write mine 0;-1;-1 @6 1>1 tells 7 puts 9 | 1",
@@ -79,7 +79,7 @@ func TestExample5(t *testing.T) {
 func TestExample6(t *testing.T) {
 	f := lay(t, api.Polite, 100)
 	j := f.job("get r1 @0\ndrop @0\ndrop @0")
-	f.does(j, first,
+	f.Does(j, first,
 		"none begin -1;-1;-1 @0 0>1 | 0",
 		"read point 0;-1;-1 @3 0>0 | 0", "read status 0;-1;0 @1 2>2 | 0", "read mine 0;0;-1 @6 1>1 tells 7 | 1",
 		"none release 0;0;-1 | 2", "none release 0;-1;-1 | 3",
@@ -96,7 +96,7 @@ func TestExample7(t *testing.T) {
 		objects int
 		want    api.Errno
 	}{{nil, 17, api.ErrLimit}, {nil, -1, api.ErrLimit}, {refused, 17, api.ErrCode}} {
-		if j, e := interp.New(f.fresh(0, 0), c.code, c.objects); j != nil || e != c.want {
+		if j, e := interp.New(f.Fresh(0, 0), c.code, c.objects); j != nil || e != c.want {
 			t.Errorf("New(%+v, %d) = %v, %d, want %d", c.code, c.objects, j, e, c.want)
 		}
 	}
@@ -127,20 +127,20 @@ func TestNew(t *testing.T) {
 		{[]lang.Instr{{Code: lang.Get, Obj: fixture.Num(math.MinInt64)}}, api.OK}, // a bad object is found when it runs
 	}
 	f := lay(t, api.Polite, 100)
-	f.open()
+	f.Open()
 	for _, c := range codes {
 		for _, objects := range append([]int{0, 1, 2, 15, 16}, far...) {
 			want := c.want
 			if want == api.OK && slices.Contains(far, objects) {
 				want = api.ErrLimit
 			}
-			all := aroundOf(f.s)
-			x := f.fresh(0, 0)
+			all := fixture.AroundOf(f.Scene)
+			x := f.Fresh(0, 0)
 			j, e := interp.New(x, c.code, objects)
 			if e != want || (j == nil) != (want != api.OK) {
 				t.Fatalf("New(%+v, %d) = %v, %d, want %d", c.code, objects, j, e, want)
 			}
-			if aroundOf(f.s) != all || x.State() != api.StateFresh || x.Tries() != 0 || len(f.s.Memory.Log()) != 0 {
+			if fixture.AroundOf(f.Scene) != all || x.State() != api.StateFresh || x.Tries() != 0 || len(f.Scene.Memory.Log()) != 0 {
 				t.Fatalf("New(%+v, %d) has moved the scene", c.code, objects)
 			}
 			if j != nil {
@@ -153,22 +153,22 @@ func TestNew(t *testing.T) {
 // A transaction for which a job was refused may have another one.
 func TestRefusedLeavesTheTransaction(t *testing.T) {
 	f := lay(t, api.Polite, 100)
-	x := f.fresh(2, 5)
+	x := f.Fresh(2, 5)
 	interp.New(x, nil, 17)
 	interp.New(x, make([]lang.Instr, 1), 2)
 	j, e := interp.New(x, fixture.Program(t, "get r1 @1\ndone r1"), 2)
-	f.ok(e)
-	f.run(j)
+	f.OK(e)
+	f.Run(j)
 	f.answers(j, 1, api.EndCommit, 8, 1)
 }
 
 func TestNilAndZero(t *testing.T) {
 	f := lay(t, api.Polite, 100)
-	f.open()
+	f.Open()
 	for _, j := range []*interp.Job{nil, {}, new(interp.Job)} {
 		for range 3 {
 			f.tells(j, sight{over: true})
-			f.refused(j, api.ErrEnded)
+			f.Refused(j, api.ErrEnded)
 		}
 	}
 }
@@ -177,10 +177,10 @@ func TestNilAndZero(t *testing.T) {
 func TestWhoseRows(t *testing.T) {
 	for _, n := range []int{0, 1, -1, 5, 99, math.MaxInt, math.MinInt} {
 		f := lay(t, api.Polite, 100)
-		f.run(f.job("")) // so that the attempt's number is another than the try
+		f.Run(f.job("")) // so that the attempt's number is another than the try
 		j := f.jobOf(n, -n, fixture.Program(t, "let r1 1\nadd r1 r1 1\nif 1 == 1 e\ne: goto g\ng: drop @0\nget r1 @0\ndrop @0"))
-		for _, r := range f.run(j) {
-			if whoseOf(r) != (whose{n, -n, 1, 2}) {
+		for _, r := range f.Run(j) {
+			if fixture.WhoseOf(r) != fixture.By(n, -n, 1, 2) {
 				t.Fatalf("%+v", r)
 			}
 		}
@@ -198,7 +198,7 @@ func TestOwnRows(t *testing.T) {
 	released.Object, released.Entry = 0, 1
 	none.Object = 0
 	want := []api.Row{local, local, local, local, local, released, none, back}
-	got := slices.DeleteFunc(f.run(j), func(r api.Row) bool {
+	got := slices.DeleteFunc(f.Run(j), func(r api.Row) bool {
 		return r.Kind != api.RowLocal && r.Kind != api.RowRelease && r.Kind != api.RowReturn
 	})
 	if !slices.Equal(got, want) {
@@ -212,8 +212,8 @@ func TestHandedIn(t *testing.T) {
 	room := append(fixture.Program(t, "get r1 @0\nadd r1 r1 1\nput @0 r1\ndone r1"), make([]lang.Instr, 8)...)
 	code := room[:4]
 	was := slices.Clone(room)
-	j, e := interp.New(f.fresh(2, 5), code, 2)
-	f.ok(e)
+	j, e := interp.New(f.Fresh(2, 5), code, 2)
+	f.OK(e)
 	for k := 0; !j.Over(); k++ {
 		if !slices.Equal(room, was) {
 			t.Fatalf("step %d: the program is %+v", k, room)
@@ -221,7 +221,7 @@ func TestHandedIn(t *testing.T) {
 		for i := range room {
 			room[i] = lang.Instr{Code: lang.Quit}
 		}
-		f.step(j)
+		f.Step(j)
 		if slices.ContainsFunc(room, func(in lang.Instr) bool { return in != lang.Instr{Code: lang.Quit} }) {
 			t.Fatalf("step %d: the program is %+v", k, room)
 		}
@@ -238,10 +238,10 @@ func TestTwoOfOneProgram(t *testing.T) {
 	i, j := f.jobOf(0, 0, code), f.jobOf(1, 0, code)
 	for k := 0; !i.Over() || !j.Over(); k++ {
 		if !i.Over() {
-			f.step(i)
+			f.Step(i)
 		}
 		if k%3 > 0 && !j.Over() {
-			f.step(j)
+			f.Step(j)
 		}
 	}
 	f.answers(i, 4, api.EndCommit, 15, 1)
@@ -251,30 +251,30 @@ func TestTwoOfOneProgram(t *testing.T) {
 // Whoever hands in a transaction that stands elsewhere, or more objects than the world has, has steps that end.
 func TestWhatIsLeftFree(t *testing.T) {
 	f := lay(t, api.Polite, 1)
-	f.open()
+	f.Open()
 	stands := []func() *retry.Transaction{
 		func() *retry.Transaction { return nil },
 		func() *retry.Transaction { return new(retry.Transaction) },
-		func() *retry.Transaction { return f.fresh(0, 0) },
+		func() *retry.Transaction { return f.Fresh(0, 0) },
 		func() *retry.Transaction { // open
-			x := f.fresh(0, 0)
-			f.open()
+			x := f.Fresh(0, 0)
+			f.Open()
 			x.Step()
 			return x
 		},
 		func() *retry.Transaction { // busy
-			x := f.fresh(0, 0)
-			f.open()
+			x := f.Fresh(0, 0)
+			f.Open()
 			x.Step()
 			x.Write(0)
 			return x
 		},
 		func() *retry.Transaction { // over
-			x := f.fresh(0, 0)
-			f.open()
+			x := f.Fresh(0, 0)
+			f.Open()
 			x.Step()
 			x.Quit(api.EndUser)
-			f.open()
+			f.Open()
 			x.Step()
 			return x
 		},
@@ -283,9 +283,9 @@ func TestWhatIsLeftFree(t *testing.T) {
 	for _, stand := range stands {
 		for from := range len(code) + 1 {
 			j, e := interp.New(stand(), code[from:], 16)
-			f.ok(e)
+			f.OK(e)
 			for range 20 {
-				f.open()
+				f.Open()
 				if r, e := j.Step(); e != api.OK && r != (api.Row{}) {
 					t.Errorf("Step = %+v, %d", r, e)
 				}

@@ -94,25 +94,33 @@ func (p *plain) local(regs registers, words []string, place int) int {
 	return place + 1
 }
 
-func (p *plain) sight() sight {
-	regs, place := p.now()
-	s := sight{place: place}
-	if len(p.rows) == 0 || p.rows[len(p.rows)-1].Kind != api.RowReturn {
-		return s
+func (p *plain) Place() int {
+	_, place := p.now()
+	return place
+}
+
+func (p *plain) Over() bool {
+	return len(p.rows) > 0 && p.rows[len(p.rows)-1].Kind == api.RowReturn
+}
+
+func (p *plain) Answer() api.Answer {
+	var a api.Answer
+	if !p.Over() {
+		return a
 	}
-	s.over = true
 	for _, r := range p.rows {
 		if r.Kind == api.RowBegin || r.Kind == api.RowAgain {
-			s.answer.Tries++
+			a.Tries++
 		}
 		if r.End != api.EndNone {
-			s.answer.Outcome = r.End
+			a.Outcome = r.End
 		}
 	}
-	if s.answer.Outcome == api.EndCommit {
-		s.answer.Result = regs.source(p.lines[place][1])
+	if a.Outcome == api.EndCommit {
+		regs, place := p.now()
+		a.Result = regs.source(p.lines[place][1])
 	}
-	return s
+	return a
 }
 
 // object tells which object a line names, -1: a bad one.
@@ -129,8 +137,8 @@ func (p *plain) object(regs registers, words []string) int {
 	return -1
 }
 
-func (p *plain) step() (api.Row, api.Errno) {
-	if p.sight().over {
+func (p *plain) Step() (api.Row, api.Errno) {
+	if p.Over() {
 		return api.Row{}, api.ErrEnded
 	}
 	regs, place := p.now()

@@ -51,17 +51,17 @@ func TestStandings(t *testing.T) {
 		for text, rows := range map[string][]string{"get r2 @0": c.get, "take r2 @0": c.take, "put @0 9": c.put, "drop @0": c.drop} {
 			f := lay(t, api.Polite, 100)
 			j := f.job(c.ahead + "\n" + text + "\ndone r2")
-			for f.step(j); j.Place() < place; {
-				f.step(j)
+			for f.Step(j); j.Place() < place; {
+				f.Step(j)
 			}
 			for k, row := range rows {
 				behind := place
 				if k == len(rows)-1 {
 					behind++
 				}
-				f.does(j, first, fmt.Sprintf("%s | %d", row, behind))
+				f.Does(j, first, fmt.Sprintf("%s | %d", row, behind))
 			}
-			f.run(j)
+			f.Run(j)
 			told := int64(0)
 			if _, tail, found := strings.Cut(rows[len(rows)-1], "tells "); found && !strings.Contains(tail, "puts") {
 				told, _ = strconv.ParseInt(tail, 10, 64)
@@ -75,7 +75,7 @@ func TestStandings(t *testing.T) {
 func TestChecks(t *testing.T) {
 	f := layOver(t, 7, 8, 9)
 	j := f.job("get r1 @0\nget r2 @1\ntake r3 @2\ndrop @0\nput @1 r3\ndone r3")
-	f.does(j, first,
+	f.Does(j, first,
 		"none begin -1;-1;-1 @0 0>1 | 0",
 		"read point 0;-1;-1 @3 0>0 | 0", "read status 0;-1;0 @1 2>2 | 0", "read mine 0;0;-1 @7 1>1 tells 7 | 1",
 		"read point 1;-1;-1 @4 1>1 | 1", "read status 1;-1;0 @1 2>2 | 1",
@@ -92,9 +92,9 @@ func TestChecks(t *testing.T) {
 
 	f = lay(t, api.Polite, 100)
 	j = f.job("get r1 @1\nget r2 @0")
-	f.until(j, api.RowMine)
-	f.until(j, api.RowMine)
-	f.does(j, first,
+	f.Until(j, api.RowMine)
+	f.Until(j, api.RowMine)
+	f.Does(j, first,
 		"final point 1;0;-1 @4 1>1 | 2", "final status 1;0;0 @1 2>2 | 2",
 		"final point 0;1;-1 @3 0>0 | 2", "final status 0;1;0 @1 2>2 | 2",
 		"final commit -1;-1;-1 @6 1>2 end commit | 2", "none return -1;-1;-1 | 2")
@@ -106,7 +106,7 @@ func TestBoost(t *testing.T) {
 	for _, kind := range []int{api.Karma, api.Polka} {
 		f := lay(t, kind, 100)
 		j := f.job("get r1 @0\nput @0 r1\ntake r2 @1\ndone r2")
-		f.does(j, first,
+		f.Does(j, first,
 			"none begin -1;-1;-1 @0 0>1 | 0",
 			"read point 0;-1;-1 @3 0>0 | 0", "read status 0;-1;0 @1 2>2 | 0", "read mine 0;-1;-1 @6 1>1 | 0",
 			"read boost 0;0;-1 @5 0>1 tells 7 | 1",
@@ -123,30 +123,30 @@ func TestBoost(t *testing.T) {
 func TestConflict(t *testing.T) {
 	f := lay(t, api.Greedy, 50)
 	i, j := f.jobOf(0, 0, fixture.Program(t, "put @0 70\ndone 1")), f.jobOf(1, 3, fixture.Program(t, "get r1 @1\nget r2 @0\ndone r2"))
-	who := whose{1, 3, 1, 2}
-	f.until(i, api.RowMine)
-	f.until(j, api.RowMine)
-	f.does(j, who,
+	who := fixture.By(1, 3, 1, 2)
+	f.Until(i, api.RowMine)
+	f.Until(j, api.RowMine)
+	f.Does(j, who,
 		"read point 0;-1;-1 @3 2>2 | 1", "read status 0;-1;1 @6 1>1 | 1", "read mine 0;-1;1 @9 1>1 | 1",
 		"read look 0;-1;1 @7 0>0 wait 4 | 1", "read up 0;-1;1 @10 0>1 | 1",
 		"read wait 0;-1;1 wait 3 | 1", "read wait 0;-1;1 wait 2 | 1", "read wait 0;-1;1 wait 1 | 1")
-	f.until(i, api.RowCommit)
-	f.does(j, who,
+	f.Until(i, api.RowCommit)
+	f.Does(j, who,
 		"read wait 0;-1;1 | 1", "read point 0;-1;-1 @3 2>2 | 1", "read status 0;-1;1 @6 2>2 | 1",
 		"read down 0;-1;1 @10 1>0 | 1", "read point 1;0;-1 @4 1>1 | 1", "read status 1;0;0 @1 2>2 | 1",
 		"read mine 0;1;-1 @9 1>1 tells 70 | 2")
 	k := f.jobOf(4, 0, fixture.Program(t, "put @1 80"))
-	f.until(k, api.RowMine)
-	f.does(j, who,
+	f.Until(k, api.RowMine)
+	f.Does(j, who,
 		"final point 1;0;-1 @4 3>3 | 2", "final status 1;0;3 @12 1>1 | 2", "final mine 1;0;3 @9 1>1 | 2",
 		"final look 1;0;3 @13 0>0 abort | 2", "final kill 1;0;3 @12 1>3 | 2",
 		"final point 1;0;-1 @4 3>3 | 2", "final status 1;0;3 @12 3>3 | 2",
 		"final point 0;1;-1 @3 2>2 | 2", "final status 0;1;1 @6 2>2 | 2",
 		"final commit -1;-1;-1 @9 1>2 end commit | 2", "none return -1;-1;-1 | 2")
 	f.answers(j, 2, api.EndCommit, 70, 1)
-	f.run(i)
+	f.Run(i)
 	f.answers(i, 1, api.EndCommit, 1, 1)
-	f.run(k)
+	f.Run(k)
 	f.answers(k, 1, api.EndCommit, 0, 2)
 	f.committed(70, 80)
 }
@@ -155,9 +155,9 @@ func TestConflict(t *testing.T) {
 func TestLostSwap(t *testing.T) {
 	f := lay(t, api.Polite, 1)
 	j := f.job("let r1 5\nput @0 r1\ndone r1")
-	f.until(j, api.RowStatus)
+	f.Until(j, api.RowStatus)
 	f.overtaken(0, 70)
-	f.does(j, first,
+	f.Does(j, first,
 		"write acquire 0;-1;-1 @3 2>2 lost | 1",
 		"write point 0;-1;-1 @3 2>2 | 1", "write status 0;-1;2 @9 2>2 | 1", "write acquire 0;-1;-1 @3 2>4 | 1",
 		"write mine 0;-1;-1 @6 1>1 tells 70 puts 5 | 2",
@@ -182,7 +182,7 @@ func TestBadObjects(t *testing.T) {
 			for _, form := range []string{"get r1 OBJ", "take r1 OBJ", "put OBJ 3", "put OBJ r2", "put OBJ r9", "drop OBJ"} {
 				f := layOver(t, nums...)
 				j := f.jobWith(strings.Replace(form, "OBJ", "@"+word.Format(bad), 1)+"\ndone 9", many)
-				f.does(j, first, "none begin -1;-1;-1 @0 0>1 | 0", quits+"0", "none return -1;-1;-1 | 0")
+				f.Does(j, first, "none begin -1;-1;-1 @0 0>1 | 0", quits+"0", "none return -1;-1;-1 | 0")
 				f.answers(j, 0, api.EndBad, 0, 1)
 
 				f = layOver(t, nums...)
@@ -192,10 +192,10 @@ func TestBadObjects(t *testing.T) {
 				}
 				j = f.jobWith(ahead+strings.Replace(form, "OBJ", "@r2", 1)+"\ndone 9", many)
 				place := strings.Count(ahead, "\n")
-				for f.step(j); j.Place() < place; {
-					f.step(j)
+				for f.Step(j); j.Place() < place; {
+					f.Step(j)
 				}
-				f.does(j, first, quits+strconv.Itoa(place), "none return -1;-1;-1 | "+strconv.Itoa(place))
+				f.Does(j, first, quits+strconv.Itoa(place), "none return -1;-1;-1 | "+strconv.Itoa(place))
 				f.answers(j, place, api.EndBad, 0, 1)
 				f.committed(nums...)
 			}
@@ -220,7 +220,7 @@ func TestGoodObjects(t *testing.T) {
 					instr += " -1"
 				}
 				j := f.job("let r9 " + n + "\n" + instr + "\ndone r1")
-				f.run(j)
+				f.Run(j)
 				f.answers(j, 2, api.EndCommit, result, 1)
 				if text == "put " {
 					nums[x] = -1
@@ -242,7 +242,7 @@ func TestGoodObjects(t *testing.T) {
 func (f *floor) runs(text string, objects, outcome, place int) {
 	f.Helper()
 	j := f.jobWith(text, objects)
-	f.run(j)
+	f.Run(j)
 	f.answers(j, place, outcome, 0, 1)
 }
 
@@ -262,7 +262,7 @@ func TestRegisterNamesAndIsFilled(t *testing.T) {
 	} {
 		f := layOver(t, 2, 7, 1)
 		j := f.job(text)
-		f.run(j)
+		f.Run(j)
 		if a := j.Answer(); a != (api.Answer{Outcome: api.EndCommit, Result: want[0], Tries: 1}) {
 			t.Errorf("%q: %+v", text, a)
 		}
@@ -289,7 +289,7 @@ func TestRegisters(t *testing.T) {
 		} {
 			f := layOver(t, -7)
 			j := f.job(text)
-			f.run(j)
+			f.Run(j)
 			if a := j.Answer(); a != (api.Answer{Outcome: api.EndCommit, Result: want, Tries: 1}) {
 				t.Errorf("%q: %+v, want %d", text, a, want)
 			}
@@ -306,9 +306,9 @@ func TestLocal(t *testing.T) {
 				want, _ := word.Apply(op, a, b)
 				f := layOver(t, 0)
 				j := f.jobOf(2, 5, []lang.Instr{{Code: lang.Let, Dst: 3, X: fixture.Num(a)}, {Code: lang.Calc, Dst: 4, X: fixture.Reg(3), Y: fixture.Num(b), Op: op}, {Code: lang.Done, X: fixture.Reg(4)}})
-				f.step(j)
-				f.does(j, first, "none local -1;-1;-1 | 1", "none local -1;-1;-1 | 2")
-				f.run(j)
+				f.Step(j)
+				f.Does(j, first, "none local -1;-1;-1 | 1", "none local -1;-1;-1 | 2")
+				f.Run(j)
 				f.answers(j, 2, api.EndCommit, want, 1)
 			}
 			for rel := word.Eq; rel <= word.Ge; rel++ {
@@ -318,8 +318,8 @@ func TestLocal(t *testing.T) {
 				}
 				f := layOver(t, 0)
 				j := f.jobOf(2, 5, []lang.Instr{{Code: lang.Let, Dst: 3, X: fixture.Num(b)}, {Code: lang.If, X: fixture.Num(a), Y: fixture.Reg(3), Rel: rel, To: 3}, {Code: lang.Quit}})
-				f.step(j)
-				f.does(j, first, "none local -1;-1;-1 | 1", "none local -1;-1;-1 | "+strconv.Itoa(behind))
+				f.Step(j)
+				f.Does(j, first, "none local -1;-1;-1 | 1", "none local -1;-1;-1 | "+strconv.Itoa(behind))
 			}
 		}
 	}
@@ -351,11 +351,11 @@ func TestJumps(t *testing.T) {
 	} {
 		f := lay(t, api.Polite, 100)
 		j := f.job(c.text)
-		f.step(j)
-		f.does(j, first, local(c.places...)...)
+		f.Step(j)
+		f.Does(j, first, local(c.places...)...)
 		end := len(fixture.Program(t, c.text))
 		if c.places[len(c.places)-1] == end {
-			f.does(j, first, fmt.Sprintf("final commit -1;-1;-1 @6 1>2 end commit | %d", end), fmt.Sprintf("none return -1;-1;-1 | %d", end))
+			f.Does(j, first, fmt.Sprintf("final commit -1;-1;-1 @6 1>2 end commit | %d", end), fmt.Sprintf("none return -1;-1;-1 | %d", end))
 			f.answers(j, end, api.EndCommit, 0, 1)
 		}
 	}
@@ -365,7 +365,7 @@ func TestJumps(t *testing.T) {
 func TestLongest(t *testing.T) {
 	f := lay(t, api.Polite, 100)
 	j := f.job(strings.Repeat("add r1 r1 1\n", lang.MaxCode-1) + "put @1 r1")
-	rows := f.run(j)
+	rows := f.Run(j)
 	if len(rows) != 1+63+4+1+1 {
 		t.Errorf("%d rows", len(rows))
 	}
@@ -377,23 +377,23 @@ func TestLongest(t *testing.T) {
 func TestTwoWithinOneStep(t *testing.T) {
 	f := lay(t, api.Polite, 100)
 	j := f.job("let r1 3\nget r2 @0\ndrop @0\nput @5 1")
-	f.refused(j, api.ErrClosed)
-	f.open()
-	f.must(j, api.RowBegin)
-	f.must(j, api.RowLocal)
-	f.refused(j, api.ErrClosed)
-	f.open()
-	f.must(j, api.RowPoint)
-	f.refused(j, api.ErrClosed)
-	f.open()
-	f.must(j, api.RowStatus)
-	f.open()
-	f.must(j, api.RowMine)
-	f.must(j, api.RowRelease)
-	f.refused(j, api.ErrClosed)
-	f.refused(j, api.ErrClosed)
-	f.open()
-	f.must(j, api.RowQuit)
-	f.must(j, api.RowReturn)
+	f.Refused(j, api.ErrClosed)
+	f.Open()
+	f.Must(j, api.RowBegin)
+	f.Must(j, api.RowLocal)
+	f.Refused(j, api.ErrClosed)
+	f.Open()
+	f.Must(j, api.RowPoint)
+	f.Refused(j, api.ErrClosed)
+	f.Open()
+	f.Must(j, api.RowStatus)
+	f.Open()
+	f.Must(j, api.RowMine)
+	f.Must(j, api.RowRelease)
+	f.Refused(j, api.ErrClosed)
+	f.Refused(j, api.ErrClosed)
+	f.Open()
+	f.Must(j, api.RowQuit)
+	f.Must(j, api.RowReturn)
 	f.answers(j, 3, api.EndBad, 0, 1)
 }
