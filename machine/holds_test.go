@@ -10,20 +10,12 @@ import (
 	"braid/machine"
 )
 
-// thrown gives scripts of every manager, longer and shorter ones, few as long as may be.
-func thrown(d *fixture.Dice, n int) machine.Script {
-	if n%97 == 96 {
-		return fixture.Script(d, n%api.Managers, api.MaxPicks)
-	}
-	return fixture.Script(d, n%api.Managers, fixture.Pick(d, 20, 150, 400))
-}
-
 // 14.7: one row a pick; who is finished stutters, and nobody else.
 func TestOneRowAPick(t *testing.T) {
 	t.Parallel()
 	d := fixture.NewDice()
 	for n := range 1000 {
-		s := thrown(&d, n)
+		s := fixture.Thrown(&d, n)
 		all := run(t, s).Rows
 		if len(all) != len(s.Picks) {
 			t.Fatalf("script %d: %d rows, %d picks", n, len(all), len(s.Picks))
@@ -53,7 +45,7 @@ func TestTheLogIsInTheRows(t *testing.T) {
 	t.Parallel()
 	d := fixture.NewDice()
 	for n := range 500 {
-		s := thrown(&d, n)
+		s := fixture.Thrown(&d, n)
 		m := fresh(t, s)
 		var want []api.Access
 		for _, r := range ends(m).Rows {
@@ -76,7 +68,7 @@ func TestPrefix(t *testing.T) {
 	t.Parallel()
 	d := fixture.NewDice()
 	for n := range 200 {
-		s := thrown(&d, n)
+		s := fixture.Thrown(&d, n)
 		all := run(t, s).Rows
 		m := fresh(t, s)
 		for k := range len(s.Picks) + 1 {
@@ -95,7 +87,7 @@ func TestAStutterChangesNothing(t *testing.T) {
 	t.Parallel()
 	d := fixture.NewDice()
 	for n := range 400 {
-		s := thrown(&d, n)
+		s := fixture.Thrown(&d, n)
 		s.Picks = s.Picks[:min(len(s.Picks), api.MaxPicks-1)] // one more is to be put in
 		want := run(t, s)
 		at := d.Below(len(s.Picks) + 1)
@@ -136,7 +128,7 @@ func TestThreadsThatAreNotPicked(t *testing.T) {
 	t.Parallel()
 	d := fixture.NewDice()
 	for n := range 400 {
-		s := thrown(&d, n)
+		s := fixture.Thrown(&d, n)
 		p := d.Below(len(s.Threads))
 		s.Picks = slices.DeleteFunc(s.Picks, func(k int64) bool { return k == int64(p) })
 		got := run(t, s)

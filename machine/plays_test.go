@@ -14,7 +14,7 @@ func TestSideBySide(t *testing.T) {
 	d := fixture.NewDice()
 	all := fixture.Tally{Rows: map[[2]int]int{}}
 	for n := range 1500 {
-		s := thrown(&d, n)
+		s := fixture.Thrown(&d, n)
 		m, w := fresh(t, s), newPlain(s)
 		values(t, m.Values(), w.committed()...)
 		for range s.Picks {

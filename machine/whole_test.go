@@ -230,7 +230,7 @@ func TestWhole(t *testing.T) {
 	d := fixture.NewDice()
 	said, commits, failed, released := 0, 0, 0, 0
 	for n := range 3000 {
-		w := watch(t, thrown(&d, n))
+		w := watch(t, fixture.Thrown(&d, n))
 		w.serial()
 		w.opaque()
 		w.onlyCommits()
