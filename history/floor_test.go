@@ -5,111 +5,17 @@ import (
 	"testing"
 
 	"braid/api"
+	"braid/fixture"
 	"braid/history"
 )
 
-// of is a row of a thread that uses nothing.
-func of(thread, kind int) api.Row {
-	return api.Row{Thread: thread, Kind: kind, Object: -1, Entry: -1, Enemy: -1, Cell: -1}
-}
-
-func stutter() api.Row {
-	r := of(-1, api.RowStutter)
-	r.Job, r.Attempt = -1, -1
-	return r
-}
-
-func begin(thread int) api.Row { return of(thread, api.RowBegin) }
-func again(thread int) api.Row { return of(thread, api.RowAgain) }
-func back(thread int) api.Row  { return of(thread, api.RowReturn) }
-
-// tells is a row that tells a number.
-func tells(thread, kind, phase, object, entry int, num int64) api.Row {
-	r := of(thread, kind)
-	r.Phase, r.Object, r.Entry, r.Told, r.Value = phase, object, entry, true, api.Value{Num: num}
-	return r
-}
-
-// reads is the row with which a read ends.
-func reads(thread, object, entry int, num int64) api.Row {
-	return tells(thread, api.RowMine, api.PhaseRead, object, entry, num)
-}
-
-// puts is a row that puts a number.
-func puts(thread, object int, num int64) api.Row {
-	r := of(thread, api.RowLocal)
-	r.Object, r.Puts, r.Put = object, true, api.Value{Num: num}
-	return r
-}
-
-// writes is the row with which an open for writing ends, in which a number is put.
-func writes(thread, object, entry int, num, put int64) api.Row {
-	r := tells(thread, api.RowBoost, api.PhaseWrite, object, entry, num)
-	r.Puts, r.Put = true, api.Value{Num: put}
-	return r
-}
-
-func release(thread, entry int) api.Row {
-	r := of(thread, api.RowRelease)
-	r.Object, r.Entry = 0, entry
-	return r
-}
-
-func commit(thread int) api.Row {
-	r := of(thread, api.RowCommit)
-	r.Phase, r.Done, r.End = api.PhaseFinal, true, api.EndCommit
-	return r
-}
-
-// quit is a RowQuit with an end.
-func quit(thread, end int) api.Row {
-	r := of(thread, api.RowQuit)
-	r.Phase, r.End = api.PhaseQuit, end
-	return r
-}
-
-// killed is a row that finds its attempt aborted.
-func killed(thread, kind int) api.Row {
-	return with(of(thread, kind), func(r *api.Row) { r.End = api.EndKilled })
-}
-
-// with is a row in which something is otherwise.
-func with(r api.Row, change func(*api.Row)) api.Row {
-	change(&r)
-	return r
-}
-
-// laid gives each row its step, and whose it is: jobs, tries, attempts and stamps are counted on as they should.
-func laid(list ...api.Row) []api.Row {
-	last := map[int]api.Row{}
-	attempts, begun := 0, int64(0)
-	rows := slices.Clone(list)
-	for i := range rows {
-		r := &rows[i]
-		r.Step = i
-		if r.Kind == api.RowStutter {
-			continue
-		}
-		before, there := last[r.Thread]
-		r.Job, r.Try, r.Attempt = before.Job, before.Try, before.Attempt
-		switch r.Kind {
-		case api.RowBegin:
-			if r.Try = 1; there {
-				r.Job++
-			}
-			r.Seen = begun
-			begun++
-			attempts++
-			r.Attempt = attempts
-		case api.RowAgain:
-			r.Try++
-			attempts++
-			r.Attempt = attempts
-		}
-		last[r.Thread] = *r
-	}
-	return rows
-}
+// The rows of package fixture, by short names.
+var (
+	of, stutter, begin, again, back = fixture.Of, fixture.Stutter, fixture.Begin, fixture.Again, fixture.Back
+	tells, reads, writes, puts      = fixture.Tells, fixture.Reads, fixture.Writes, fixture.Puts
+	release, commit, quit, killed   = fixture.Release, fixture.Commit, fixture.Quit, fixture.Killed
+	with, laid                      = fixture.With, fixture.Laid
+)
 
 // example is chapter 15's example 1.
 func example() []api.Row {

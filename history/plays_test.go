@@ -10,85 +10,6 @@ import (
 	"braid/machine"
 )
 
-// throws gives rows that may stand: as long as nothing forbids it, anything.
-func throws(d *fixture.Dice, size int) []api.Row {
-	var list []api.Row
-	var state [api.MaxThreads]int // 0 idle, 1 live, 2 failed, 3 done
-	var count [api.MaxThreads]int
-	threads := 1 + d.Below(api.MaxThreads)
-	for range size {
-		p := d.Below(threads)
-		switch {
-		case d.Below(12) == 0:
-			list = append(list, odd(d, stutter()))
-		case state[p] == 0:
-			list = append(list, odd(d, begin(p)))
-			state[p], count[p] = 1, 0
-		case state[p] == 2:
-			list = append(list, odd(d, again(p)))
-			state[p], count[p] = 1, 0
-		case state[p] == 3:
-			list = append(list, odd(d, back(p)))
-			state[p] = 0
-		default:
-			r := acts(d, p, count[p])
-			if r.Told && r.Entry == count[p] {
-				count[p]++
-			}
-			if r.End != api.EndNone {
-				state[p] = 2
-			}
-			if decided(r.End) {
-				state[p] = 3
-			}
-			list = append(list, r)
-		}
-	}
-	return laid(list...)
-}
-
-// odd fills what is not looked at in any row with anything.
-func odd(d *fixture.Dice, r api.Row) api.Row {
-	n := func() int { return fixture.Pick(d, -1, 0, 1, 2, 3, 4, 7, math.MinInt, math.MaxInt) }
-	r.Phase, r.Object, r.Entry, r.Enemy, r.Cell = n(), n(), n(), n(), n()
-	r.Seen, r.Wrote, r.Wait = fixture.Edge(d), fixture.Edge(d), n()
-	r.Done, r.Abort, r.Timeout = d.Below(2) == 0, d.Below(2) == 0, d.Below(2) == 0
-	r.Value, r.Put = anyValue(d), anyValue(d)
-	return r
-}
-
-func anyValue(d *fixture.Dice) api.Value {
-	return api.Value{Num: fixture.Edge(d), Next: d.Below(4) - 1, Dead: d.Below(2) == 0}
-}
-
-// acts gives a row of an attempt that has been told so many ordinals.
-func acts(d *fixture.Dice, p, count int) api.Row {
-	r := odd(d, of(p, api.RowLocal+d.Below(api.RowReturn-api.RowLocal)))
-	named := func() int { return fixture.Pick(d, 0, 1, 2, 3, 4, 9, math.MaxInt) }
-	if r.Puts = d.Below(3) == 0; r.Puts {
-		r.Object = named()
-	}
-	switch {
-	case r.Kind == api.RowRelease:
-		r.Entry = d.Below(count+1) - 1
-	case d.Below(3) == 0:
-		r.Told, r.Object, r.Phase = true, named(), fixture.Pick(d, api.PhaseRead, api.PhaseRead, api.PhaseWrite)
-		r.Entry = d.Below(count+2) - 1
-		if r.Phase == api.PhaseWrite {
-			r.Entry = min(r.Entry, count-1)
-		}
-	}
-	switch {
-	case r.Kind == api.RowCommit && r.Done:
-		r.End = api.EndCommit
-	case r.Kind == api.RowQuit:
-		r.End = fixture.Pick(d, api.EndNone, api.EndUser, api.EndBad, api.EndStale, api.EndKilled)
-	case d.Below(20) == 0:
-		r.End = fixture.Pick(d, api.EndStale, api.EndKilled)
-	}
-	return r
-}
-
 // spoils changes one field of a row, most often to what might stand there.
 func spoils(d *fixture.Dice, rows []api.Row) []api.Row {
 	rows = slices.Clone(rows)
@@ -125,7 +46,7 @@ func TestThrownRows(t *testing.T) {
 	d := fixture.NewDice()
 	good, bad := 0, 0
 	for range 2000 {
-		rows := throws(&d, 1+d.Below(80))
+		rows := fixture.Rows(&d, 1+d.Below(80))
 		beside(t, rows, fixture.Numbers(5, 6, 7, 8)[:d.Below(5)])
 		for range 6 {
 			spoilt := spoils(&d, rows)
@@ -204,7 +125,7 @@ func TestBeginningsOfThrownRows(t *testing.T) {
 	t.Parallel()
 	d := fixture.NewDice()
 	for range 100 {
-		rows := throws(&d, 50)
+		rows := fixture.Rows(&d, 50)
 		for k := range len(rows) + 1 {
 			beginnings(t, rows, fixture.Numbers(5, 6, 7), k)
 		}

@@ -140,7 +140,7 @@ func TestThreadsThatAreNotPicked(t *testing.T) {
 		if len(got.Answers[p]) != len(s.Threads[p]) || slices.ContainsFunc(got.Answers[p], func(a api.Answer) bool { return a != (api.Answer{}) }) {
 			t.Fatalf("script %d: answers %+v", n, got.Answers[p])
 		}
-		other := copied(s)
+		other := fixture.Copied(s)
 		for i, j := range other.Threads[p] {
 			if j.Kind != api.JobProgram {
 				other.Threads[p][i] = fixture.Call(&d)

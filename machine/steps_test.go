@@ -41,17 +41,6 @@ func spoilScript(s machine.Script) {
 	spoil(s.Threads, nil)
 }
 
-func copied(s machine.Script) machine.Script {
-	s.Objects, s.Draws, s.Picks, s.Threads = slices.Clone(s.Objects), slices.Clone(s.Draws), slices.Clone(s.Picks), slices.Clone(s.Threads)
-	for p := range s.Threads {
-		s.Threads[p] = slices.Clone(s.Threads[p])
-		for n := range s.Threads[p] {
-			s.Threads[p][n].Program = slices.Clone(s.Threads[p][n].Program)
-		}
-	}
-	return s
-}
-
 func same(t *testing.T, got, want machine.Result) {
 	t.Helper()
 	if !slices.Equal(got.Rows, want.Rows) {
@@ -68,7 +57,7 @@ func TestNothingIsShared(t *testing.T) {
 	d := fixture.NewDice()
 	for n := range 200 {
 		s := fixture.Script(&d, n%api.Managers, 200)
-		kept := copied(s)
+		kept := fixture.Copied(s)
 		want := run(t, s)
 		if machine.Check(s) != api.OK || !sameScript(s, kept) {
 			t.Fatalf("script %d has changed", n)
