@@ -29,36 +29,28 @@ func TestHandedIn(t *testing.T) {
 	}
 }
 
-// full writes a list full, its spare room too.
-func full[T any](list []T, with T) {
-	list = list[:cap(list)]
-	for i := range list {
-		list[i] = with
-	}
-}
-
 // R3: what is answered is new memory, its spare room too; no two lists of one answer share any.
 func TestAnswersAreNew(t *testing.T) {
 	want := plain(story()).txs()
 	for i := range want {
 		txs := txsOf(t, story())
-		full(txs[i].Saws, api.Saw{Step: 99})
+		fixture.Full(txs[i].Saws, api.Saw{Step: 99})
 		for k := range txs {
 			if k != i && !slices.Equal(txs[k].Saws, want[k].Saws) || !slices.Equal(txs[k].Writes, want[k].Writes) {
 				t.Fatalf("attempt %d's saws written over: %+v", i, txs[k])
 			}
 		}
 		txs = txsOf(t, story())
-		full(txs[i].Writes, api.Wrote{Object: 99})
+		fixture.Full(txs[i].Writes, api.Wrote{Object: 99})
 		for k := range txs {
 			if k != i && !slices.Equal(txs[k].Writes, want[k].Writes) || !slices.Equal(txs[k].Saws, want[k].Saws) {
 				t.Fatalf("attempt %d's writes written over: %+v", i, txs[k])
 			}
 		}
-		full(txs, api.Tx{Thread: 99})
+		fixture.Full(txs, api.Tx{Thread: 99})
 		sameTxs(t, txsOf(t, story()), want)
 	}
-	full(outcomes(t, story()), 99)
+	fixture.Full(outcomes(t, story()), 99)
 	sameSteps(t, outcomes(t, story()), 16, 22, 33, 40)
 }
 
@@ -68,7 +60,7 @@ func TestValuesAreNew(t *testing.T) {
 	for n := range len(all) + 1 {
 		for _, step := range []int{-1, 0, len(rows) - 1} {
 			a, b := at(t, all[:n], rows, step), at(t, all[:n], rows, step)
-			full(a, api.Value{Num: 99})
+			fixture.Full(a, api.Value{Num: 99})
 			sameValues(t, b, plain(rows).at(all[:n], step))
 			sameValues(t, all, fixture.Numbers(0, 1, 2, 3, 4, 5, 6))
 			if len(b) > 0 {
@@ -84,8 +76,8 @@ func TestNothingIsKept(t *testing.T) {
 	rows, first := story(), fixture.Numbers(0, 1, 2, 3, 4)
 	txs, values, steps := txsOf(t, rows), at(t, first, rows, 40), outcomes(t, rows)
 	want, wanted := plain(rows).txs(), plain(rows).at(first, 40)
-	full(rows, with(stutter(), func(r *api.Row) { r.Step = 77 }))
-	full(first, api.Value{Num: 55})
+	fixture.Full(rows, with(stutter(), func(r *api.Row) { r.Step = 77 }))
+	fixture.Full(first, api.Value{Num: 55})
 	sameTxs(t, txs, want)
 	sameValues(t, values, wanted)
 	sameSteps(t, steps, 16, 22, 33, 40)

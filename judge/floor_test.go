@@ -10,12 +10,13 @@ import (
 	"braid/machine"
 )
 
-// The rows of package fixture, by short names.
+// The rows and results of package fixture, by short names.
 var (
 	of, stutter, begin, again, back = fixture.Of, fixture.Stutter, fixture.Begin, fixture.Again, fixture.Back
 	tells, reads, writes, puts      = fixture.Tells, fixture.Reads, fixture.Writes, fixture.Puts
 	release, commit, quit, killed   = fixture.Release, fixture.Commit, fixture.Quit, fixture.Killed
 	with, laid                      = fixture.With, fixture.Laid
+	played, copied                  = fixture.Played, fixture.CopiedResult
 )
 
 // one adds 1 to object 0.
@@ -113,38 +114,6 @@ func example(t *testing.T) (machine.Script, machine.Result, []api.Value) {
 	s.Picks = make([]int64, 12)
 	r, first := run(t, s)
 	return s, r, first
-}
-
-// played lays rows beside a script: its picks are those of the rows; no job has an answer, and the finals are what the
-// committed attempts put, one behind the other as they committed.
-func played(s machine.Script, rows []api.Row) (machine.Script, machine.Result) {
-	s = fixture.Copied(s)
-	s.Picks = nil
-	r := machine.Result{Rows: rows}
-	for _, row := range rows {
-		s.Picks = append(s.Picks, int64(row.Thread))
-	}
-	for _, jobs := range s.Threads {
-		r.Answers = append(r.Answers, make([]api.Answer, len(jobs)))
-	}
-	r.Finals, _ = machine.First(s)
-	for _, end := range rows {
-		for _, row := range rows {
-			if end.End == api.EndCommit && row.Attempt == end.Attempt && row.Puts && row.Object < len(r.Finals) {
-				r.Finals[row.Object] = row.Put
-			}
-		}
-	}
-	return s, r
-}
-
-// copied gives a result of the same that shares nothing with it.
-func copied(r machine.Result) machine.Result {
-	r.Rows, r.Answers, r.Finals = slices.Clone(r.Rows), slices.Clone(r.Answers), slices.Clone(r.Finals)
-	for p := range r.Answers {
-		r.Answers[p] = slices.Clone(r.Answers[p])
-	}
-	return r
 }
 
 func answer(result int64, tries int) api.Answer {

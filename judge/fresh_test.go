@@ -13,28 +13,6 @@ import (
 	"braid/machine"
 )
 
-// full writes a list full, its spare room too.
-func full[T any](list []T, with T) {
-	list = list[:cap(list)]
-	for i := range list {
-		list[i] = with
-	}
-}
-
-func sameResult(a, b machine.Result) bool {
-	return slices.Equal(a.Rows, b.Rows) && slices.Equal(a.Finals, b.Finals) && slices.EqualFunc(a.Answers, b.Answers, slices.Equal)
-}
-
-func sameScript(a, b machine.Script) bool {
-	return slices.Equal(a.Objects, b.Objects) && slices.Equal(a.Draws, b.Draws) && slices.Equal(a.Picks, b.Picks) &&
-		a.Manager == b.Manager && a.Patience == b.Patience &&
-		slices.EqualFunc(a.Threads, b.Threads, func(x, y []machine.Job) bool {
-			return slices.EqualFunc(x, y, func(i, j machine.Job) bool {
-				return i.Kind == j.Kind && i.Key == j.Key && i.Other == j.Other && slices.Equal(i.Program, j.Program)
-			})
-		})
-}
-
 // R3: no call changes what it is given, the room behind it too.
 func TestHandedIn(t *testing.T) {
 	for _, letGo := range []bool{false, true} {
@@ -51,7 +29,7 @@ func TestHandedIn(t *testing.T) {
 			judge.Moments(first, r.Rows, tx)
 			judge.Order(txs)
 		}
-		if !sameScript(s, keptScript) || !sameResult(r, kept) || !slices.Equal(first, keptFirst) {
+		if !fixture.SameScript(s, keptScript) || !fixture.SameResult(r, kept) || !slices.Equal(first, keptFirst) {
 			t.Error("what was handed in was changed")
 		}
 		if !slices.Equal(r.Finals[:9], room) || !slices.Equal(first[:9], roomOfFirst) || !slices.Equal(s.Objects[:9], []int64{1, 1, 0, 0, 0, 0, 0, 0, 0}) {
@@ -73,21 +51,21 @@ func TestAnswersAreNew(t *testing.T) {
 	txs := txsOf(t, r.Rows)
 	a, _ := judge.Order(txs)
 	b, _ := judge.Order(txs)
-	full(a, 99)
+	fixture.Full(a, 99)
 	if !slices.Equal(b, []int{0, 1}) {
 		t.Errorf("Order = %v", b)
 	}
 	a, _ = judge.Moments(first, r.Rows, 1)
 	b, _ = judge.Moments(first, r.Rows, 1)
-	full(a, 99)
+	fixture.Full(a, 99)
 	if !slices.Equal(b, []int{1, 1, 1}) {
 		t.Errorf("Moments = %v", b)
 	}
 	moments(t, first, r.Rows, 1, 1, 1, 1)
 	ordered(t, txs, 0, 1)
-	full(r.Rows, stutter())
-	full(first, api.Value{Num: 55})
-	full(txs, api.Tx{})
+	fixture.Full(r.Rows, stutter())
+	fixture.Full(first, api.Value{Num: 55})
+	fixture.Full(txs, api.Tx{})
 	if !slices.Equal(b, []int{1, 1, 1}) {
 		t.Errorf("Moments = %v", b)
 	}

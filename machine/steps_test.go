@@ -59,7 +59,7 @@ func TestNothingIsShared(t *testing.T) {
 		s := fixture.Script(&d, n%api.Managers, 200)
 		kept := fixture.Copied(s)
 		want := run(t, s)
-		if machine.Check(s) != api.OK || !sameScript(s, kept) {
+		if machine.Check(s) != api.OK || !fixture.SameScript(s, kept) {
 			t.Fatalf("script %d has changed", n)
 		}
 		m := fresh(t, s)
@@ -85,16 +85,6 @@ func TestNothingIsShared(t *testing.T) {
 		spoil(want.Finals, api.Value{})
 		same(t, run(t, kept), ends(fresh(t, kept)))
 	}
-}
-
-func sameScript(a, b machine.Script) bool {
-	return slices.Equal(a.Objects, b.Objects) && slices.Equal(a.Draws, b.Draws) && slices.Equal(a.Picks, b.Picks) &&
-		a.Manager == b.Manager && a.Patience == b.Patience &&
-		slices.EqualFunc(a.Threads, b.Threads, func(x, y []machine.Job) bool {
-			return slices.EqualFunc(x, y, func(i, j machine.Job) bool {
-				return i.Kind == j.Kind && i.Key == j.Key && i.Other == j.Other && slices.Equal(i.Program, j.Program)
-			})
-		})
 }
 
 // ends steps to the last pick.
