@@ -79,20 +79,7 @@ func TestPrintOfPicks(t *testing.T) {
 
 // P19.4: what machine.Check refuses has no text.
 func TestPrintRefuses(t *testing.T) {
-	for why, spoil := range map[api.Errno]func(s *machine.Script){
-		api.ErrObjects:  func(s *machine.Script) { s.Objects = make([]int64, api.MaxMap+1) },
-		api.ErrThreads:  func(s *machine.Script) { s.Threads = nil },
-		api.ErrJobs:     func(s *machine.Script) { s.Threads[1] = make([]machine.Job, api.MaxJobs+1) },
-		api.ErrJob:      func(s *machine.Script) { s.Threads[0][0].Key = 1 },
-		api.ErrMany:     func(s *machine.Script) { s.Threads[0][0].Program = make([]lang.Instr, lang.MaxCode+1) },
-		api.ErrCode:     func(s *machine.Script) { s.Threads[0][0].Program = []lang.Instr{{Code: lang.Quit, To: 1}} },
-		api.ErrManager:  func(s *machine.Script) { s.Manager = api.Managers },
-		api.ErrPatience: func(s *machine.Script) { s.Patience = 0 },
-		api.ErrDraws:    func(s *machine.Script) { s.Draws = make([]int64, api.MaxDraws+1) },
-		api.ErrPicks:    func(s *machine.Script) { s.Picks = make([]int64, api.MaxPicks+1) },
-	} {
-		s := plainHead([]machine.Job{{}}, nil)
-		spoil(&s)
+	for why, s := range fixture.Faulty(plainHead([]machine.Job{{}}, nil)) {
 		if text, e := script.Print(s); text != "" || e != why {
 			t.Errorf("Print = %q, %d, want %d", text, e, why)
 		}

@@ -6,7 +6,6 @@ import (
 
 	"braid/api"
 	"braid/fixture"
-	"braid/lang"
 	"braid/machine"
 )
 
@@ -111,23 +110,9 @@ func TestDepths(t *testing.T) {
 
 // What machine.Check refuses, each ahead of a depth that may not be, of too many lists and of too many picks.
 func TestScriptsThatMayNotBe(t *testing.T) {
-	for why, spoil := range map[api.Errno]func(s *machine.Script){
-		api.ErrObjects:  func(s *machine.Script) { s.Objects = make([]int64, api.MaxMap+1) },
-		api.ErrThreads:  func(s *machine.Script) { s.Threads = empty(api.MaxThreads + 1).Threads },
-		api.ErrJobs:     func(s *machine.Script) { s.Threads[5] = make([]machine.Job, api.MaxJobs+1) },
-		api.ErrJob:      func(s *machine.Script) { s.Threads[5][0].Key = 1 },
-		api.ErrMany:     func(s *machine.Script) { s.Threads[5][0].Program = make([]lang.Instr, lang.MaxCode+1) },
-		api.ErrCode:     func(s *machine.Script) { s.Threads[5][0].Program = []lang.Instr{{Code: lang.Quit, To: 1}} },
-		api.ErrManager:  func(s *machine.Script) { s.Manager = api.Managers },
-		api.ErrPatience: func(s *machine.Script) { s.Patience = 0 },
-		api.ErrDraws:    func(s *machine.Script) { s.Draws = make([]int64, api.MaxDraws+1) },
-		api.ErrPicks:    func(s *machine.Script) { s.Picks = make([]int64, api.MaxPicks+1) },
-	} {
-		for _, depth := range []int{0, 1, 4, 8, -1, 9, math.MinInt, math.MaxInt} {
-			for _, picks := range []int{0, 9, api.MaxSweep + 1} {
-				s := fixture.Copied(empty(6))
-				s.Picks = make([]int64, picks)
-				spoil(&s)
+	for _, picks := range []int{0, 9, api.MaxSweep + 1} {
+		for why, s := range fixture.Faulty(picked(empty(6), make([]int64, picks)...)) {
+			for _, depth := range []int{0, 1, 4, 8, -1, 9, math.MinInt, math.MaxInt} {
 				refused(t, s, depth, why)
 			}
 		}
