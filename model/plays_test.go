@@ -203,8 +203,8 @@ func readsOf(code []lang.Instr, over objects, fuel int) given {
 	var g given
 	_, past := plainAlone(code, over, nil, fuel)
 	for _, h := range past {
-		if h.what == "read" {
-			g = append(g, use(over[h.object]))
+		if h.What == "read" {
+			g = append(g, use(over[h.Object]))
 		}
 	}
 	return g

@@ -251,7 +251,7 @@ func TestOperators(t *testing.T) {
 	for op := word.Add; op <= word.Max; op++ {
 		for _, a := range ends {
 			for _, b := range ends {
-				want := plainApply(word.OpName(op), a, b)
+				want := fixture.Applied(word.OpName(op), a, b)
 				for _, f := range forms(a, b) {
 					commits(t, f[0]+word.OpName(op)+" r15 "+f[1]+" "+f[2]+"\ndone r15", nil, nil, want, nil)
 				}
@@ -266,7 +266,7 @@ func TestRelations(t *testing.T) {
 		for _, a := range ends {
 			for _, b := range ends {
 				want, count := int64(7), 2
-				if plainHolds(word.RelName(rel), a, b) {
+				if fixture.Related(word.RelName(rel), a, b) {
 					want = 8
 				}
 				for _, f := range forms(a, b) {

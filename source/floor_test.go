@@ -7,6 +7,7 @@ import (
 	"testing"
 
 	"braid/api"
+	"braid/fixture"
 	"braid/source"
 )
 
@@ -20,16 +21,15 @@ const (
 // strengths have the operators that stand between their operands: the place is the strength.
 var strengths = [6]string{1: "||", 2: "&&", 3: "== != < <= > >=", 4: "+ - | ^", 5: "* / % & << >>"}
 
-func num(n int64) source.Expr   { return source.Expr{Kind: source.Number, Num: n} }
-func name(w string) source.Expr { return source.Expr{Kind: source.Name, Word: w} }
+// Short names for what stands in package fixture.
+var (
+	name   = fixture.Name
+	one    = fixture.Unary
+	two    = fixture.Binary
+	nested = fixture.Nested
+)
 
-func one(kind int, a source.Expr) source.Expr {
-	return source.Expr{Kind: kind, Args: []source.Expr{a}}
-}
-
-func two(a source.Expr, op string, b source.Expr) source.Expr {
-	return source.Expr{Kind: source.Binary, Word: op, Args: []source.Expr{a, b}}
-}
+func num(n int64) source.Expr { return source.Expr{Kind: source.Number, Num: n} }
 
 func assign(w string, a source.Expr) source.Stmt {
 	return source.Stmt{Kind: source.Assign, Word: w, A: a}
@@ -41,42 +41,6 @@ func aborts() source.Stmt { return source.Stmt{Kind: source.Abort} }
 
 // times is a list in which one thing stands so often.
 func times[T any](n int, of T) []T { return slices.Repeat([]T{of}, n) }
-
-// nested is an expression around which so many others stand.
-func nested(n int, kind int, e source.Expr) source.Expr {
-	for range n {
-		e = one(kind, e)
-	}
-	return e
-}
-
-// same holds two programs against each other, lists that are nil and lists that are empty being the same.
-func same(a, b []source.Stmt) bool {
-	return slices.EqualFunc(a, b, func(s, o source.Stmt) bool {
-		return s.Kind == o.Kind && s.Word == o.Word && sameExpr(s.A, o.A) && sameExpr(s.B, o.B) && same(s.Then, o.Then) && same(s.Else, o.Else)
-	})
-}
-
-func sameExpr(a, b source.Expr) bool {
-	return a.Kind == b.Kind && a.Num == b.Num && a.Word == b.Word && slices.EqualFunc(a.Args, b.Args, sameExpr)
-}
-
-// copied is the program in lists of its own.
-func copied(prog []source.Stmt) []source.Stmt {
-	own := slices.Clone(prog)
-	for i, s := range own {
-		own[i].A, own[i].B, own[i].Then, own[i].Else = copiedExpr(s.A), copiedExpr(s.B), copied(s.Then), copied(s.Else)
-	}
-	return own
-}
-
-func copiedExpr(e source.Expr) source.Expr {
-	e.Args = slices.Clone(e.Args)
-	for i, a := range e.Args {
-		e.Args[i] = copiedExpr(a)
-	}
-	return e
-}
 
 // reads is the program of a text that has no fault.
 func reads(t *testing.T, text string) []source.Stmt {
@@ -94,7 +58,7 @@ func reads(t *testing.T, text string) []source.Stmt {
 // says looks that a text is that program.
 func says(t *testing.T, text string, want ...source.Stmt) {
 	t.Helper()
-	if prog := reads(t, text); !same(prog, want) {
+	if prog := reads(t, text); !fixture.SameTree(prog, want) {
 		t.Errorf("Parse(%.300q) = %s, want %s", text, told(prog), told(want))
 	}
 }

@@ -2,7 +2,6 @@ package source_test
 
 import (
 	"runtime"
-	"slices"
 	"strings"
 	"sync"
 	"testing"
@@ -15,72 +14,17 @@ import (
 // sample has each kind of statement and of expression, and lists of several lengths.
 const sample = "x := min(1, [y]) + -2;\n[x] := take [!y] * 3 - (x < 4);\nif x == y && z {\n\tabort;\n\twhile [x] {\n\t\trelease [y];\n\t\tx := x + 1;\n\t\ty := y + 1;\n\t}\n} else if !z {\n\treturn 5;\n} else {\n\tz := 1;\n\tz := 2;\n\tz := 3;\n}\nreturn x;\n"
 
-// scribbled writes all lists of a program full, their spare room too.
-func scribbled(prog []source.Stmt) {
-	for i := range prog {
-		scribbledExpr(prog[i].A)
-		scribbledExpr(prog[i].B)
-		scribbled(prog[i].Then)
-		scribbled(prog[i].Else)
-	}
-	fixture.Full(prog, source.Stmt{Kind: -7, Word: "?"})
-}
-
-func scribbledExpr(e source.Expr) {
-	for _, a := range e.Args {
-		scribbledExpr(a)
-	}
-	fixture.Full(e.Args, source.Expr{Kind: -7, Word: "?"})
-}
-
-// roomy is the program in lists that have room behind them, all of it filled.
-func roomy(prog []source.Stmt) []source.Stmt {
-	list := times(len(prog)+3, source.Stmt{Kind: 99, Word: "room"})
-	for i, s := range prog {
-		s.A, s.B, s.Then, s.Else = roomyExpr(s.A), roomyExpr(s.B), roomy(s.Then), roomy(s.Else)
-		list[i] = s
-	}
-	return list[:len(prog)]
-}
-
-func roomyExpr(e source.Expr) source.Expr {
-	list := times(len(e.Args)+3, source.Expr{Kind: 99, Word: "room"})
-	for i, a := range e.Args {
-		list[i] = roomyExpr(a)
-	}
-	e.Args = list[:len(e.Args)]
-	return e
-}
-
-// whole is the program with the room behind its lists.
-func whole(prog []source.Stmt) []source.Stmt {
-	all := slices.Clone(prog[:cap(prog)])
-	for i := range prog {
-		all[i].A, all[i].B, all[i].Then, all[i].Else = wholeExpr(all[i].A), wholeExpr(all[i].B), whole(all[i].Then), whole(all[i].Else)
-	}
-	return all
-}
-
-func wholeExpr(e source.Expr) source.Expr {
-	count := len(e.Args)
-	e.Args = slices.Clone(e.Args[:cap(e.Args)])
-	for i := range count {
-		e.Args[i] = wholeExpr(e.Args[i])
-	}
-	return e
-}
-
 // R3: trees that are handed in stay as they were, the room behind their lists too, whatever is answered.
 func TestHandedIn(t *testing.T) {
 	for _, last := range []source.Stmt{aborts(), returns(num(-1)), returns(nested(40, source.Not, name("x"))), {Kind: source.If, A: num(0), Then: assigns(9)}} {
 		prog := append(reads(t, sample), last)
-		handed, kept := roomy(prog), whole(roomy(prog))
+		handed, kept := fixture.RoomyTree(prog), fixture.WholeTree(fixture.RoomyTree(prog))
 		for range 2 {
 			source.Check(handed)
 			source.Print(handed)
 			source.Names(handed)
 		}
-		if !same(whole(handed), kept) || !same(handed, prog) {
+		if !fixture.SameTree(fixture.WholeTree(handed), kept) || !fixture.SameTree(handed, prog) {
 			t.Errorf("%s, want %s", told(handed), told(prog))
 		}
 	}
@@ -89,9 +33,9 @@ func TestHandedIn(t *testing.T) {
 // R3: what is answered is the caller's, its spare room too; what was handed in is not kept.
 func TestAnswersAreNew(t *testing.T) {
 	first, second := reads(t, sample), reads(t, sample)
-	want := copied(first)
-	scribbled(first)
-	if !same(second, want) {
+	want := fixture.CopiedTree(first)
+	fixture.ScribbledTree(first)
+	if !fixture.SameTree(second, want) {
 		t.Errorf("%s, want %s", told(second), told(want))
 	}
 	says(t, sample, want...)
@@ -107,7 +51,7 @@ func TestAnswersAreNew(t *testing.T) {
 	}
 	names(t, second, "x", "y", "z")
 	text, _ := source.Print(second)
-	scribbled(second)
+	fixture.ScribbledTree(second)
 	if strings.Join(two, " ") != "x y z" || text != sample {
 		t.Errorf("%q, %q", two, text)
 	}
@@ -124,7 +68,7 @@ func TestListsOfOneAnswer(t *testing.T) {
 			}
 			return
 		}
-		if !same(prog, want) {
+		if !fixture.SameTree(prog, want) {
 			t.Errorf("list %d: %s, want %s", which, told(prog), told(want))
 		}
 	}
@@ -191,7 +135,7 @@ func TestTheSameAgain(t *testing.T) {
 		strings.Repeat(" ", 32769):               {Err: api.ErrSource},
 	}
 	ask := func() {
-		if got, f := source.Parse(sample); f != (source.Fault{}) || !same(got, want) {
+		if got, f := source.Parse(sample); f != (source.Fault{}) || !fixture.SameTree(got, want) {
 			t.Errorf("Parse = %s, %+v", told(got), f)
 		}
 		for text, fault := range faults {

@@ -8,6 +8,7 @@ import (
 	"strings"
 
 	"braid/api"
+	"braid/fixture"
 	"braid/source"
 )
 
@@ -363,7 +364,7 @@ func nodesOf(prog []source.Stmt) []node {
 	for i := 0; i < len(list); i++ {
 		n := list[i]
 		for _, e := range []source.Expr{n.stmt.A, n.stmt.B} {
-			if !sameExpr(e, source.Expr{}) {
+			if !fixture.SameExpr(e, source.Expr{}) {
 				exprs(n.depth+1, e)
 			}
 		}
@@ -392,8 +393,8 @@ func (n node) canBe() bool {
 		want, ok := stmtForms[n.stmt.Kind]
 		letter(isName(n.stmt.Word), "W")
 		letter(!isName(n.stmt.Word) && n.stmt.Word != "", "?")
-		letter(!sameExpr(n.stmt.A, source.Expr{}), "a")
-		letter(!sameExpr(n.stmt.B, source.Expr{}), "b")
+		letter(!fixture.SameExpr(n.stmt.A, source.Expr{}), "a")
+		letter(!fixture.SameExpr(n.stmt.B, source.Expr{}), "b")
 		letter(len(n.stmt.Then) > 0 || strings.Contains(want, "t"), "t")
 		letter(len(n.stmt.Else) > 0 || strings.Contains(want, "e"), "e")
 		return ok && form == want

@@ -16,7 +16,7 @@ func sameText(t *testing.T, text string) api.Errno {
 	t.Helper()
 	prog, f := source.Parse(text)
 	want, g := plainParse(text)
-	if f != g || !same(prog, want) || f.Err != api.OK && prog != nil {
+	if f != g || !fixture.SameTree(prog, want) || f.Err != api.OK && prog != nil {
 		t.Fatalf("Parse(%q) = %s, %+v, want %s, %+v", text, told(prog), f, told(want), g)
 	}
 	if f.Err == api.OK {
@@ -308,7 +308,7 @@ func TestThrownTexts(t *testing.T) {
 	for range 900 {
 		prog := thrown(&d)
 		text := dressed(&d, prog)
-		if got, f := source.Parse(text); len(text) <= 32768 && (f != (source.Fault{Err: plainCheck(prog)}) || f.Err == api.OK && !same(got, prog)) {
+		if got, f := source.Parse(text); len(text) <= 32768 && (f != (source.Fault{Err: plainCheck(prog)}) || f.Err == api.OK && !fixture.SameTree(got, prog)) {
 			t.Fatalf("Parse(%q) = %s, %+v, want %s", text, told(got), f, told(prog))
 		}
 		if len(text) < 5000 {

@@ -5,6 +5,7 @@ import (
 	"testing"
 
 	"braid/api"
+	"braid/fixture"
 	"braid/source"
 )
 
@@ -34,7 +35,7 @@ func printsExpr(t *testing.T, e source.Expr, want string) {
 		}
 		end := at + matching(want[at:])
 		bare := want[:at] + " " + want[at+1:end] + " " + want[end+1:]
-		if prog, f := source.Parse("return " + bare + ";"); f.Err == api.OK && same(prog, []source.Stmt{returns(e)}) {
+		if prog, f := source.Parse("return " + bare + ";"); f.Err == api.OK && fixture.SameTree(prog, []source.Stmt{returns(e)}) {
 			t.Errorf("Print says %q, but %q is the same", want, bare)
 		}
 	}
