@@ -117,7 +117,7 @@ func sets(second bool, n int64) objects {
 
 // Each operator evaluates both operands, but for the two that leave the right one out.
 func TestCountOfOperators(t *testing.T) {
-	for _, op := range strings.Fields(lazySigns + " " + relations + " " + sums) {
+	for _, op := range strings.Fields(signs) {
 		for _, left := range []string{"0", "1", "7"} {
 			for _, right := range []string{"[0]", "[9]"} {
 				e := left + " " + op + " " + right

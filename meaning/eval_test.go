@@ -30,7 +30,7 @@ func withObject(t *testing.T) []source.Expr {
 // An expression that source.Check refuses, ahead of all other errors.
 func TestEvalChecks(t *testing.T) {
 	ninth := num(0)
-	for _, s := range assigns(9) {
+	for _, s := range fixture.Assigns(9) {
 		ninth = two(ninth, "+", name(s.Word))
 	}
 	for _, c := range []struct {
@@ -158,7 +158,7 @@ func TestEvalIsRun(t *testing.T) {
 			values = append(values, n)
 			p = append(p, source.Stmt{Kind: source.Assign, Word: w, A: fixture.Number(n)})
 		}
-		want := plainEval(e, names, values)
+		want := fixture.Evaluated(e, names, values)
 		evals(t, e, names, values, want)
 		p = append(p, returns(e)...)
 		if a := answer(t, p, objects{7}, given{use(1)}, 1000); !alike(a, alone(api.EndCommit, want, 0, 7)) {

@@ -15,12 +15,8 @@ import (
 // inc adds 1 to object 0: the chapter's own program.
 const inc = "[0] := [0] + 1; return [0];"
 
-// The chapter's operators, once more: those that leave an operand out, the relations, and what word.Apply answers.
-const (
-	lazySigns = "|| &&"
-	relations = "== != < <= > >="
-	sums      = "+ - * / % & | ^ << >> min max"
-)
+// signs are the chapter's operators.
+const signs = fixture.LazySigns + " " + fixture.Relations + " " + fixture.Sums
 
 // ends are numbers at which operators and relations turn.
 var ends = []int64{math.MinInt64, math.MinInt64 + 1, -65, -64, -2, -1, 0, 1, 2, 3, 7, 63, 64, 65, math.MaxInt64 - 1, math.MaxInt64}
@@ -149,42 +145,11 @@ var (
 	one    = fixture.Unary
 	two    = fixture.Binary
 	nested = fixture.Nested
+
+	returns = fixture.Returns
 )
 
 func num(n int64) source.Expr { return source.Expr{Kind: source.Number, Num: n} }
-
-func returns(e source.Expr) prog { return prog{{Kind: source.Return, A: e}} }
-
-// assigns are Assigns to so many names.
-func assigns(n int) prog {
-	var list prog
-	for i := range n {
-		list = append(list, source.Stmt{Kind: source.Assign, Word: "x" + string(rune('0'+i)), A: num(0)})
-	}
-	return list
-}
-
-// wrongTrees are programs that source.Check refuses, with why.
-func wrongTrees() map[api.Errno][]prog {
-	ninth := num(0)
-	for _, s := range assigns(9) {
-		ninth = two(ninth, "+", name(s.Word))
-	}
-	aborts := slices.Repeat(prog{{Kind: source.Abort}}, 513)
-	return map[api.Errno][]prog{
-		api.ErrTree: {
-			make(prog, 1), make(prog, 600),
-			{{Kind: source.Abort, Word: "x"}}, {{Kind: source.Return}}, {{Kind: source.Return + 1}}, {{Kind: -1}},
-			{{Kind: source.Assign, Word: "if", A: num(0)}},
-			returns(num(-1)), returns(name("A")), returns(two(num(1), "=", num(2))), returns(source.Expr{Kind: source.Not}),
-			append(returns(num(0)), source.Stmt{Kind: source.While, A: num(0), Else: aborts[:1]}),
-			append(assigns(9), append(aborts, returns(nested(30, source.Not, num(-1)))...)...),
-		},
-		api.ErrNames: {assigns(9), returns(ninth), append(aborts, assigns(9)...), append(assigns(9), returns(nested(30, source.Not, num(1)))...)},
-		api.ErrDeep:  {returns(nested(23, source.Minus, num(0))), append(aborts, returns(nested(23, source.Object, num(0)))...)},
-		api.ErrBig:   {aborts, append(aborts[:510:510], source.Stmt{Kind: source.Store, A: num(0), B: num(0)})},
-	}
-}
 
 // badNumbers are numbers that no object has where there are so many.
 func badNumbers(many int) []int64 {

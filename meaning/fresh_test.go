@@ -15,18 +15,13 @@ import (
 // sample has each kind of statement and of expression, over three objects.
 const sample = "x := min(1, [y]) + -2; [x + 2] := take [!y] * 3 - (x < 4); while x == 0 - 1 && ![5 * x + 5] { release [y]; x := x + 1; if z { abort; } else { [2] := [2] + 1; } } return [2] * 1000 + [0] || 1;"
 
-// roomy is a list with room behind it, all of it filled.
-func roomy[T any](list []T, with T) []T {
-	return append(slices.Clone(list), with, with, with)[:len(list)]
-}
-
 // R3: what is handed in stays as it was, the room behind it too, whatever is answered.
 func TestHandedIn(t *testing.T) {
 	over, g := objects{0, 8, 9}, given{use(0), use(3), {}}
 	for _, text := range []string{sample, inc, "[0] := 9; abort;", "[0] := 9; x := [3];", "[0] := 9; while 1 { [1] := [1] + 1; }", "[1] := 3; return 1 + [1];"} {
 		p := fixture.Source(t, text)
 		for _, fuel := range []int{-1, 0, 7, 300, api.MaxFuel} {
-			p2, over2, g2 := fixture.RoomyTree(p), roomy(over, 5), roomy(g, use(5))
+			p2, over2, g2 := fixture.RoomyTree(p), fixture.Roomy(over, 5), fixture.Roomy(g, use(5))
 			kept := fixture.WholeTree(p2)
 			for range 2 {
 				meaning.Run(p2, over2, g2, fuel)
@@ -39,7 +34,7 @@ func TestHandedIn(t *testing.T) {
 	}
 	for _, e := range []source.Expr{expr(t, "a + b * min(2, -a)"), expr(t, "a + [0]"), num(-1)} {
 		for _, names := range [][]string{{"a", "b"}, {"a", "a"}, {"b", "if"}} {
-			e2, names2, values := fixture.RoomyExpr(e), roomy(names, "room"), roomy([]int64{1, 2}, 5)
+			e2, names2, values := fixture.RoomyExpr(e), fixture.Roomy(names, "room"), fixture.Roomy([]int64{1, 2}, 5)
 			kept := fixture.WholeExpr(e2)
 			for range 2 {
 				meaning.Eval(e2, names2, values)
@@ -84,7 +79,7 @@ func TestTheSameAgain(t *testing.T) {
 	var wants []api.Alone
 	for range 40 {
 		p := thrown(&d, 40, 100)
-		want, _ := plainRunOf(p.prog, p.over, p.given, 300)
+		want, _ := fixture.Meant(p.prog, p.over, p.given, 300)
 		plays, wants = append(plays, p), append(wants, want)
 	}
 	e, names, values := expr(t, "a * 10 + (b || !c)"), []string{"c", "a"}, []int64{3, 4}
@@ -128,7 +123,7 @@ func TestSample(t *testing.T) {
 	seen := map[int]bool{}
 	for _, over := range []objects{{0, 8, 9}, {1, 0, 2}, {0, 0, 0}, {-3, 5, 1}, {7, 7, 7}} {
 		for _, g := range []given{nil, {use(0)}, {use(1), use(0)}, {{}, use(0), use(2)}} {
-			want, _ := plainRunOf(p, over, g, 300)
+			want, _ := fixture.Meant(p, over, g, 300)
 			is(t, p, over, g, 300, want)
 			if want.Outcome != api.EndNone {
 				ended(t, p, over, g, want)

@@ -84,7 +84,7 @@ func TestNumbers(t *testing.T) {
 
 // The program's own error stands ahead of all others, whatever they are.
 func TestRefusedPrograms(t *testing.T) {
-	for why, list := range wrongTrees() {
+	for why, list := range fixture.FaultyTrees() {
 		for _, p := range list {
 			if e := source.Check(p); e != why {
 				t.Fatalf("Check of %d statements: %d, want %d", len(p), e, why)

@@ -18,26 +18,10 @@ type play struct {
 	given given
 }
 
-func thrownMap(d *fixture.Dice) objects {
-	over := make(objects, fixture.Pick(d, 0, 1, 2, 3, 3, 4, 16))
-	for x := range over {
-		over[x] = fixture.Pick(d, int64(d.Below(5)), int64(d.Below(5)), int64(d.Below(2000)-1000), fixture.Pick(d, ends...))
-	}
-	return over
-}
-
-func thrownGiven(d *fixture.Dice) given {
-	var g given
-	for range d.Below(fixture.Pick(d, 1, 3, 9, 20)) {
-		g = append(g, api.Given{Use: d.Below(3) > 0, Value: fixture.Pick(d, int64(d.Below(5)), int64(d.Below(2000)-1000), fixture.Pick(d, ends...))})
-	}
-	return g
-}
-
 func thrown(d *fixture.Dice, nodes ...int) play {
 	for {
-		over := thrownMap(d)
-		p := play{fixture.Tree(d, d.Below(fixture.Pick(d, nodes...)), len(over)), over, thrownGiven(d)}
+		over := fixture.Map(d)
+		p := play{fixture.Tree(d, d.Below(fixture.Pick(d, nodes...)), len(over)), over, fixture.Given(d)}
 		if source.Check(p.prog) == api.OK {
 			return p
 		}
@@ -50,12 +34,12 @@ func TestThrownRuns(t *testing.T) {
 	seen := map[int]int{}
 	for range 5000 {
 		p := thrown(&d, 4, 12, 40, 100, 300)
-		first, _ := plainRunOf(p.prog, p.over, p.given, 400)
+		first, _ := fixture.Meant(p.prog, p.over, p.given, 400)
 		for _, fuel := range []int{400, first.Count, first.Count - 1, first.Count + 1, d.Below(first.Count + 1)} {
 			if fuel < 0 {
 				continue
 			}
-			want, _ := plainRunOf(p.prog, p.over, p.given, fuel)
+			want, _ := fixture.Meant(p.prog, p.over, p.given, fuel)
 			is(t, p.prog, p.over, p.given, fuel, want)
 			seen[want.Outcome]++
 		}
@@ -255,10 +239,10 @@ func TestRightIsLeftOut(t *testing.T) {
 	d := fixture.NewDice()
 	seen := 0
 	for range 3000 {
-		over, g := thrownMap(&d), thrownGiven(&d)
+		over, g := fixture.Map(&d), fixture.Given(&d)
 		left, right := fixture.Expr(&d, 8, len(over)), fixture.Expr(&d, 8, len(over))
 		for op, enough := range map[string]int64{"||": 1, "&&": 0} {
-			alone, _ := plainRunOf(returns(one(source.Not, one(source.Not, left))), over, g, 500)
+			alone, _ := fixture.Meant(returns(one(source.Not, one(source.Not, left))), over, g, 500)
 			if alone.Outcome != api.EndCommit || alone.Result != enough {
 				continue
 			}
@@ -268,8 +252,8 @@ func TestRightIsLeftOut(t *testing.T) {
 			for _, b := range []source.Expr{right, one(source.Object, num(99)), one(source.Taken, fixture.Number(-1))} {
 				p := returns(two(left, op, b))
 				is(t, p, over, g, 500, want)
-				_, past := plainRunOf(p, over, g, 500)
-				_, bare := plainRunOf(returns(left), over, g, 500)
+				_, past := fixture.Meant(p, over, g, 500)
+				_, bare := fixture.Meant(returns(left), over, g, 500)
 				if !slices.Equal(past.All, bare.All) {
 					t.Fatalf("%s opens %v, and its left operand %v", asked(p, over, g, 500), past.All, bare.All)
 				}

@@ -2,7 +2,6 @@ package meaning_test
 
 import (
 	"math"
-	"slices"
 	"strings"
 	"testing"
 
@@ -11,44 +10,15 @@ import (
 	"braid/source"
 )
 
-// opNames are chapter 1's names of the chapter's sums.
-func opNames() map[string]string {
-	names := map[string]string{}
-	for i, w := range strings.Fields("add sub mul div rem and or xor shl shr min max") {
-		names[strings.Fields(sums)[i]] = w
-	}
-	return names
-}
-
-func yes(is bool) int64 {
-	if is {
-		return 1
-	}
-	return 0
-}
-
-// meant is what an operator is to answer of two numbers.
-func meant(op string, a, b int64) int64 {
-	switch {
-	case op == "||":
-		return yes(a != 0 || b != 0)
-	case op == "&&":
-		return yes(a != 0 && b != 0)
-	case slices.Contains(strings.Fields(relations), op):
-		return yes(fixture.Related(op, a, b))
-	}
-	return fixture.Applied(opNames()[op], a, b)
-}
-
 // Every operator over every pair of the ends, by names, by objects, by given reads and by numbers.
 func TestOperators(t *testing.T) {
-	for _, op := range strings.Fields(lazySigns + " " + relations + " " + sums) {
+	for _, op := range strings.Fields(signs) {
 		e := two(name("a"), op, name("b"))
 		byObjects := returns(two(one(source.Object, num(0)), op, one(source.Taken, num(1))))
 		byGiven := returns(two(one(source.Object, num(0)), op, one(source.Object, num(1))))
 		for _, a := range ends {
 			for _, b := range ends {
-				want := meant(op, a, b)
+				want := fixture.Combined(op, a, b)
 				evals(t, e, []string{"a", "b"}, []int64{a, b}, want)
 				evals(t, two(fixture.Number(a), op, fixture.Number(b)), nil, nil, want)
 				for p, over := range map[*prog]objects{&byObjects: {a, b}, &byGiven: {4, 4}} {
@@ -95,9 +65,9 @@ func TestMinusAndNot(t *testing.T) {
 	for _, n := range append(ends, -5, 9, 1<<40) {
 		for range 2 {
 			evals(t, one(source.Minus, name("a")), []string{"a"}, []int64{n}, fixture.Applied("sub", 0, n))
-			evals(t, one(source.Not, name("a")), []string{"a"}, []int64{n}, yes(n == 0))
+			evals(t, one(source.Not, name("a")), []string{"a"}, []int64{n}, fixture.Combined("==", n, 0))
 			commits(t, "return -[0];", objects{n}, nil, fixture.Applied("sub", 0, n), n)
-			commits(t, "return !take [0];", objects{n}, nil, yes(n == 0), n)
+			commits(t, "return !take [0];", objects{n}, nil, fixture.Combined("==", n, 0), n)
 			n = -n
 		}
 	}

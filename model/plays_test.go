@@ -10,35 +10,19 @@ import (
 	"braid/model"
 )
 
-func thrownMap(d *fixture.Dice) objects {
-	over := make(objects, fixture.Pick(d, 0, 1, 2, 3, 3, 4, 16))
-	for x := range over {
-		over[x] = fixture.Pick(d, int64(d.Below(5)), int64(d.Below(2000)-1000), fixture.Pick(d, ends...))
-	}
-	return over
-}
-
-func thrownGiven(d *fixture.Dice) given {
-	var g given
-	for range d.Below(fixture.Pick(d, 1, 3, 9)) {
-		g = append(g, api.Given{Use: d.Below(3) > 0, Value: fixture.Pick(d, int64(d.Below(5)), int64(d.Below(2000)-1000), fixture.Pick(d, ends...))})
-	}
-	return g
-}
-
 // Programs thrown together, held against the plain run, at the fuel that they need, one below and one above it.
 func TestThrownRuns(t *testing.T) {
 	d := fixture.NewDice()
 	seen := map[int]int{}
 	for range 4000 {
-		over, g := thrownMap(&d), thrownGiven(&d)
+		over, g := fixture.Map(&d), fixture.Given(&d)
 		code := fixture.Code(&d, d.Below(fixture.Pick(&d, 4, 12, 30, 65)), len(over))
-		first, _ := plainAlone(code, over, g, 300)
+		first, _ := fixture.Alone(code, over, g, 300)
 		for _, fuel := range []int{300, first.Count, first.Count - 1, first.Count + 1, d.Below(60)} {
 			if fuel < 0 {
 				continue
 			}
-			want, _ := plainAlone(code, over, g, fuel)
+			want, _ := fixture.Alone(code, over, g, fuel)
 			if a := answer(t, code, over, g, fuel); !same(a, want) {
 				text, _ := lang.Print(code)
 				t.Fatalf("Run(%q, %v, %v, %d) = %+v, want %+v", text, over, g, fuel, a, want)
@@ -57,13 +41,13 @@ func TestThrownRuns(t *testing.T) {
 func TestThrownSeries(t *testing.T) {
 	d := fixture.NewDice()
 	for range 300 {
-		over, fuel := thrownMap(&d), d.Below(60)
+		over, fuel := fixture.Map(&d), d.Below(60)
 		var list progs
 		var want []api.Alone
 		on := over
 		for range d.Below(8) {
 			list = append(list, fixture.Code(&d, d.Below(12), len(over)))
-			next, _ := plainAlone(list[len(list)-1], on, nil, fuel)
+			next, _ := fixture.Alone(list[len(list)-1], on, nil, fuel)
 			want = append(want, next)
 			on = next.Objects
 		}
@@ -110,7 +94,7 @@ func TestLastPutStays(t *testing.T) {
 func TestWithoutPutTheMapStays(t *testing.T) {
 	d := fixture.NewDice()
 	for range 1500 {
-		over, g := thrownMap(&d), thrownGiven(&d)
+		over, g := fixture.Map(&d), fixture.Given(&d)
 		code := slices.DeleteFunc(fixture.Code(&d, d.Below(20), len(over)), func(in lang.Instr) bool { return in.Code == lang.Put })
 		for k := range code {
 			code[k].To = min(code[k].To, len(code))
@@ -126,7 +110,7 @@ func TestFuelsAgree(t *testing.T) {
 	d := fixture.NewDice()
 	seen := 0
 	for range 400 {
-		over, g := thrownMap(&d), thrownGiven(&d)
+		over, g := fixture.Map(&d), fixture.Given(&d)
 		code := fixture.Code(&d, d.Below(20), len(over))
 		whole := answer(t, code, over, g, api.MaxFuel)
 		if whole.Outcome == api.EndNone {
@@ -161,7 +145,7 @@ func TestLongestIsEnough(t *testing.T) {
 		}
 		seen++
 		for range 3 {
-			over := thrownMap(&d)
+			over := fixture.Map(&d)
 			for _, fuel := range []int{n + 1, n + 2, api.MaxFuel} {
 				if a := answer(t, code, over, nil, fuel); a.Outcome == api.EndNone || a.Count > n+1 {
 					t.Fatalf("Run(%+v, %v, nil, %d) = %+v, and Longest is %d", code, over, fuel, a, n)
@@ -179,7 +163,7 @@ func TestGivingWhatIsRead(t *testing.T) {
 	d := fixture.NewDice()
 	seen := 0
 	for range 1500 {
-		over := thrownMap(&d)
+		over := fixture.Map(&d)
 		code := fixture.Code(&d, d.Below(20), len(over))
 		plain := answer(t, code, over, nil, 200)
 		g := readsOf(code, over, 200)
@@ -201,8 +185,8 @@ func TestGivingWhatIsRead(t *testing.T) {
 // readsOf are the numbers that a run without given reads reads, each with Use.
 func readsOf(code []lang.Instr, over objects, fuel int) given {
 	var g given
-	_, past := plainAlone(code, over, nil, fuel)
-	for _, h := range past {
+	_, past := fixture.Alone(code, over, nil, fuel)
+	for _, h := range past.All {
 		if h.What == "read" {
 			g = append(g, use(over[h.Object]))
 		}

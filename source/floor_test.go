@@ -27,6 +27,8 @@ var (
 	one    = fixture.Unary
 	two    = fixture.Binary
 	nested = fixture.Nested
+
+	assigns = fixture.Assigns
 )
 
 func num(n int64) source.Expr { return source.Expr{Kind: source.Number, Num: n} }

@@ -239,15 +239,6 @@ func TestStmtsOfOtherKinds(t *testing.T) {
 	}
 }
 
-// assigns are Assigns to so many names.
-func assigns(n int) []source.Stmt {
-	var list []source.Stmt
-	for i := range n {
-		list = append(list, assign("x"+string(rune('0'+i)), num(0)))
-	}
-	return list
-}
-
 func TestHowManyNames(t *testing.T) {
 	for n := range 10 {
 		want := api.OK
