@@ -3,7 +3,6 @@ package compile_test
 import (
 	"runtime"
 	"slices"
-	"sync"
 	"testing"
 
 	"braid/api"
@@ -89,7 +88,6 @@ type asked struct {
 
 // R4, R6: the same answers, however often they are asked for and by how many at once, and no goroutine is left.
 func TestTheSameAgain(t *testing.T) {
-	ahead := runtime.NumGoroutine()
 	d := fixture.NewDice()
 	var list []asked
 	for range 60 {
@@ -113,19 +111,7 @@ func TestTheSameAgain(t *testing.T) {
 			}
 		}
 	}
-	var all sync.WaitGroup
-	for range 8 {
-		all.Go(func() {
-			for range 10 {
-				ask()
-			}
-		})
-	}
-	all.Wait()
-	ask()
-	if now := runtime.NumGoroutine(); now > ahead+8 { // the test's own may take a moment to be gone
-		t.Errorf("%d goroutines, %d ahead of the calls", now, ahead)
-	}
+	fixture.OverAgain(t, runtime.NumGoroutine, 10, ask)
 }
 
 // The samples by themselves: over maps and given reads.

@@ -3,7 +3,6 @@ package graph_test
 import (
 	"runtime"
 	"slices"
-	"sync"
 	"testing"
 
 	"braid/api"
@@ -114,23 +113,10 @@ func TestAnswersAreNew(t *testing.T) {
 
 // R4, R6: the same answers, however often they are asked for and by how many at once, and no goroutine is left.
 func TestTheSameAgain(t *testing.T) {
-	ahead := runtime.NumGoroutine()
 	attempts, list := crowd(), tangle()
-	var all sync.WaitGroup
-	for range 8 {
-		all.Go(func() {
-			for range 300 {
-				if got := ask(attempts, list); !got.same(want()) {
-					t.Errorf("%+v", got)
-				}
-			}
-		})
-	}
-	all.Wait()
-	for range 50 {
-		ask(attempts, list)
-	}
-	if now := runtime.NumGoroutine(); now > ahead+8 { // the test's own may take a moment to be gone
-		t.Errorf("%d goroutines, %d ahead of the calls", now, ahead)
-	}
+	fixture.OverAgain(t, runtime.NumGoroutine, 300, func() {
+		if got := ask(attempts, list); !got.same(want()) {
+			t.Errorf("%+v", got)
+		}
+	})
 }

@@ -3,7 +3,6 @@ package meaning_test
 import (
 	"runtime"
 	"slices"
-	"sync"
 	"testing"
 
 	"braid/api"
@@ -73,7 +72,6 @@ func TestAnswersAreNew(t *testing.T) {
 
 // R4, R6: the same answers, however often they are asked for and by how many at once, and no goroutine is left.
 func TestTheSameAgain(t *testing.T) {
-	ahead := runtime.NumGoroutine()
 	d := fixture.NewDice()
 	var plays []play
 	var wants []api.Alone
@@ -100,21 +98,7 @@ func TestTheSameAgain(t *testing.T) {
 			t.Errorf("Eval = %d, %d", n, why)
 		}
 	}
-	var all sync.WaitGroup
-	for range 8 {
-		all.Go(func() {
-			for range 20 {
-				ask()
-			}
-		})
-	}
-	all.Wait()
-	for range 20 {
-		ask()
-	}
-	if now := runtime.NumGoroutine(); now > ahead+8 { // the test's own may take a moment to be gone
-		t.Errorf("%d goroutines, %d ahead of the calls", now, ahead)
-	}
+	fixture.OverAgain(t, runtime.NumGoroutine, 20, ask)
 }
 
 // The sample by itself: every kind of node, against the plain run.

@@ -3,7 +3,6 @@ package progress_test
 import (
 	"runtime"
 	"slices"
-	"sync"
 	"testing"
 
 	"braid/api"
@@ -102,27 +101,14 @@ func TestAnswersAreNew(t *testing.T) {
 
 // R4, R6: the same answers, however often they are asked for and by how many at once, and no goroutine is left.
 func TestTheSameAgain(t *testing.T) {
-	ahead := runtime.NumGoroutine()
 	s, list := contest(t), battle()
 	want := ask(contest(t), battle())
 	sound(t, want)
-	var all sync.WaitGroup
-	for range 8 {
-		all.Go(func() {
-			for range 40 {
-				if got := ask(s, list); !got.same(want) {
-					t.Errorf("%+v", got)
-				}
-			}
-		})
-	}
-	all.Wait()
-	for range 20 {
-		ask(s, list)
-	}
-	if now := runtime.NumGoroutine(); now > ahead+8 { // the test's own may take a moment to be gone
-		t.Errorf("%d goroutines, %d ahead of the calls", now, ahead)
-	}
+	fixture.OverAgain(t, runtime.NumGoroutine, 40, func() {
+		if got := ask(s, list); !got.same(want) {
+			t.Errorf("%+v", got)
+		}
+	})
 }
 
 // Long lists of rows are gone through all the same.

@@ -3,7 +3,6 @@ package shrink_test
 import (
 	"runtime"
 	"slices"
-	"sync"
 	"testing"
 
 	"braid/api"
@@ -190,27 +189,12 @@ func TestNewWhereNothingGoes(t *testing.T) {
 
 // R4, R6: the same answers, however often they are asked for and by how many at once, and no goroutine is left.
 func TestTheSameAgain(t *testing.T) {
-	ahead := runtime.NumGoroutine()
 	s := roomy(t)
 	want := ask(roomy(t))
 	sound(t, s, want)
-	var all sync.WaitGroup
-	for range 8 {
-		all.Go(func() {
-			for range 10 {
-				if got := ask(s); !got.same(want) {
-					t.Errorf("%+v", got)
-				}
-			}
-		})
-	}
-	all.Wait()
-	for range 10 {
+	fixture.OverAgain(t, runtime.NumGoroutine, 10, func() {
 		if got := ask(s); !got.same(want) {
 			t.Errorf("%+v", got)
 		}
-	}
-	if now := runtime.NumGoroutine(); now > ahead+8 { // the test's own may take a moment to be gone
-		t.Errorf("%d goroutines, %d ahead of the calls", now, ahead)
-	}
+	})
 }

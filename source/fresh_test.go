@@ -3,7 +3,6 @@ package source_test
 import (
 	"runtime"
 	"strings"
-	"sync"
 	"testing"
 
 	"braid/api"
@@ -123,7 +122,6 @@ func oneFull(prog, want []source.Stmt, which int) bool {
 
 // R4, R6: the same answers, however often they are asked for and by how many at once, and no goroutine is left.
 func TestTheSameAgain(t *testing.T) {
-	ahead := runtime.NumGoroutine()
 	want := reads(t, sample)
 	prog := reads(t, sample)
 	faults := map[string]source.Fault{
@@ -156,19 +154,5 @@ func TestTheSameAgain(t *testing.T) {
 			t.Errorf("Check = %d", e)
 		}
 	}
-	var all sync.WaitGroup
-	for range 8 {
-		all.Go(func() {
-			for range 50 {
-				ask()
-			}
-		})
-	}
-	all.Wait()
-	for range 50 {
-		ask()
-	}
-	if now := runtime.NumGoroutine(); now > ahead+8 { // the test's own may take a moment to be gone
-		t.Errorf("%d goroutines, %d ahead of the calls", now, ahead)
-	}
+	fixture.OverAgain(t, runtime.NumGoroutine, 50, ask)
 }
